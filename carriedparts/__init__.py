@@ -1,0 +1,1 @@
+"""Carriedparts: files whose parts older programs carry along without knowing them."""

@@ -1,0 +1,66 @@
+"""The names, arguments and places of the interface, and the plainest rules of form."""
+
+import ast
+import importlib
+import inspect
+import pathlib
+import unittest
+
+FOLDER = pathlib.Path(__file__).resolve().parent.parent / "carriedparts"
+INTERFACE = {
+    "errors": {
+        "BadLayout": "place", "BadFile": "place", "BadRow": "place", "BadLog": "place", "BadText": "place",
+        "BadDeed": "word", "Clash": "name", "Gap": "kind other", "Waste": "kind other", "Missing": "name",
+    },
+    "layouts": {
+        "need_layout": "thing", "is_layout": "thing", "newest": "layout", "names": "layout", "known": "layout edition",
+        "beneath": "layout name", "above": "layout name", "sources": "layout name", "is_older": "layout name other",
+        "watches": "layout name", "minds": "layout name",
+    },
+    "files": {
+        "need_file": "layout thing", "is_current": "layout file name", "stale": "layout file",
+        "is_sound": "layout file",
+    },
+}
+
+
+class Interface(unittest.TestCase):
+    def test_names_and_arguments(self):
+        for module, listed in INTERFACE.items():
+            for name, arguments in listed.items():
+                with self.subTest(module=module, name=name):
+                    found = getattr(importlib.import_module("carriedparts." + module), name)
+                    self.assertEqual(found.__module__, "carriedparts." + module)
+                    self.assertEqual(list(inspect.signature(found).parameters), arguments.split())
+
+
+class Form(unittest.TestCase):
+    def test_folder_holds_nothing_but_modules(self):
+        for path in FOLDER.iterdir():
+            self.assertTrue(path.suffix == ".py" or path.name == "__pycache__", path)
+
+    def test_files(self):
+        for path in FOLDER.glob("*.py"):
+            text = path.read_text(encoding="utf-8")
+            with self.subTest(path=path):
+                self.assertTrue(all(sign == "\n" or " " <= sign <= "~" for sign in text))
+                self.assertLessEqual(len(text.splitlines()), 399)
+                self.assertLessEqual(max(map(len, text.splitlines())), 120)
+
+    def test_functions(self):
+        for path in FOLDER.glob("*.py"):
+            for node in ast.walk(ast.parse(path.read_text(encoding="utf-8"))):
+                if isinstance(node, ast.FunctionDef):
+                    self.assertLessEqual(node.end_lineno - node.lineno + 1, 40, (path, node.name))
+
+    def test_imports(self):
+        allowed = ("heapq", "math", "itertools")
+        for path in FOLDER.glob("*.py"):
+            for node in ast.walk(ast.parse(path.read_text(encoding="utf-8"))):
+                self.assertNotIsInstance(node, ast.Import)
+                if isinstance(node, ast.ImportFrom):
+                    self.assertTrue(node.module in allowed or node.module.startswith("carriedparts."), path)
+
+
+if __name__ == "__main__":
+    unittest.main()

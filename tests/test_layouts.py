@@ -1,0 +1,365 @@
+"""Tests of carriedparts.layouts."""
+
+import copy
+import unittest
+
+from carriedparts import layouts
+from carriedparts.errors import BadDeed, BadLayout, Missing
+from carriedparts.layouts import above, beneath, is_layout, is_older, known, minds, names, need_layout, newest
+from carriedparts.layouts import sources, watches
+from things import INDEX, LAYOUT, LETTERS, PAGE, SUM, WIDE
+from things import is_text, is_whole, line_of, some_layouts, things, with_item
+
+ONE_NAME = (beneath, above, sources, watches, minds)
+
+
+def kind_with(**members):
+    """A source that is right, but for the members that are given."""
+    kind = {"name": "page", "edition": 1, "bases": (), "letter": "p", "mark": ""}
+    kind.update(members)
+    return tuple(kind.values())
+
+
+class Case(unittest.TestCase):
+    def refuse(self, thing, place):
+        with self.assertRaises(BadLayout) as caught:
+            need_layout(thing)
+        self.assertEqual(caught.exception.place, place, thing)
+        self.assertIs(type(caught.exception.place), tuple)
+        self.assertIs(is_layout(thing), False)
+
+    def take(self, thing):
+        self.assertIs(need_layout(thing), thing)
+        self.assertIs(is_layout(thing), True)
+
+    def refuse_each_but(self, is_right, layout_with, place):
+        """Each thing that is not right is refused at a place, each one that is right is taken."""
+        taken = 0
+        for thing in things():
+            with self.subTest(thing=thing):
+                if is_right(thing):
+                    taken += 1
+                    self.take(layout_with(thing))
+                else:
+                    self.refuse(layout_with(thing), place)
+        return taken
+
+
+class Constants(Case):
+    def test_limits(self):
+        self.assertEqual((layouts.MOST_KINDS, layouts.MOST_BASES, layouts.MOST_EDITION), (24, 6, 99))
+
+
+class Form(Case):
+    """[2], the form of each KIND by itself."""
+
+    def test_ordinary_layouts(self):
+        for layout in (LAYOUT, LAYOUT[:1], LAYOUT[:2], WIDE):
+            self.take(layout)
+        for layout in some_layouts(100):
+            self.take(layout)
+
+    def test_whole(self):
+        for thing in things():
+            with self.subTest(thing=thing):
+                place = (0,) if isinstance(thing, tuple) and thing else ()
+                self.refuse(thing, place)
+
+    def test_number_of_kinds(self):
+        self.take(line_of(1))
+        self.take(line_of(24))
+        self.refuse((), ())
+        self.refuse(line_of(25), ())
+        self.refuse(list(LAYOUT), ())
+        self.refuse((None,) * 25, ())
+        self.refuse((None,) * 24, (0,))
+
+    def test_kind(self):
+        for at in range(3):
+            self.refuse_each_but(lambda thing: False, lambda thing: with_item(line_of(3), at, thing), (at,))
+
+    def test_number_of_members(self):
+        self.refuse((PAGE[:4],), (0,))
+        self.refuse((PAGE + ("",),), (0,))
+        self.refuse((list(PAGE),), (0,))
+
+    def test_name(self):
+        taken = self.refuse_each_but(
+            lambda thing: is_text(thing, "[a-z]{1,8}"), lambda thing: (kind_with(name=thing),), (0,))
+        self.assertGreater(taken, 0)
+        for name in ("a", "z", "abcdefgh", "zzzzzzzz"):
+            self.take((kind_with(name=name),))
+        for name in ("", "abcdefghi", "Page", "pAge", "page1", "page ", " page", "a-b", "a_b", "a{", "a`", "ab\n", "\n"):
+            self.refuse((kind_with(name=name),), (0,))
+
+    def test_edition(self):
+        taken = self.refuse_each_but(
+            lambda thing: is_whole(thing, 1, 99), lambda thing: (kind_with(edition=thing),), (0,))
+        self.assertEqual(taken, 3)
+        for edition in (1, 2, 98, 99):
+            self.take((kind_with(edition=edition),))
+        for edition in (0, 100, -1, 10 ** 30 - 1, True, False, "1"):
+            self.refuse((kind_with(edition=edition),), (0,))
+
+    def test_bases(self):
+        taken = self.refuse_each_but(
+            lambda thing: isinstance(thing, tuple) and thing in ((), ("page",)),
+            lambda thing: (PAGE, kind_with(name="other", bases=thing)), (1,))
+        self.assertEqual(taken, 2)
+
+    def test_number_of_bases(self):
+        ahead = line_of(7)
+        given = names(ahead)
+        for many in range(7):
+            self.take(ahead + (kind_with(bases=given[:many]),))
+        self.refuse(ahead + (kind_with(bases=given),), (7,))
+        self.refuse(ahead + (kind_with(bases=list(given[:2])),), (7,))
+
+    def test_bases_are_different(self):
+        self.refuse(line_of(2) + (kind_with(bases=("ka", "ka")),), (2,))
+        self.refuse(line_of(2) + (kind_with(bases=("ka", "kb", "ka")),), (2,))
+        self.take(line_of(2) + (kind_with(bases=("kb", "ka")),))
+
+    def test_each_of_the_bases(self):
+        for at in range(2):
+            taken = self.refuse_each_but(
+                lambda thing: is_text(thing, "page"),
+                lambda thing: (PAGE, kind_with(name="q"), kind_with(name="r", bases=with_item(("q", "q"), at, thing))),
+                (2,))
+            self.assertEqual(taken, 1)
+
+    def test_letter(self):
+        taken = self.refuse_each_but(
+            lambda thing: is_text(thing, "[a-z]"), lambda thing: (kind_with(letter=thing),), (0,))
+        self.assertEqual(taken, 2)
+        for letter in LETTERS:
+            self.take((kind_with(letter=letter),))
+        for letter in ("", "ab", "abc", LETTERS, "A", "1", "-", " ", "\n", "a\n", "`", "{"):
+            self.refuse((kind_with(letter=letter),), (0,))
+
+    def test_mark(self):
+        taken = self.refuse_each_but(
+            lambda thing: is_text(thing, "[a-z]*") and thing == "".join(sorted(set(thing))),
+            lambda thing: (kind_with(mark=thing),), (0,))
+        self.assertGreater(taken, 0)
+        for mark in ("", "a", "z", "az", "abc", LETTERS):
+            self.take((kind_with(mark=mark),))
+        for mark in ("aa", "abb", "aab", "ba", "acb", "abca", LETTERS[::-1], LETTERS + "z", "A", "aB", "-", " ", "a b"):
+            self.refuse((kind_with(mark=mark),), (0,))
+
+
+class Together(Case):
+    """[2], the KINDs beside each other, and the place."""
+
+    def test_names_are_different(self):
+        self.refuse((PAGE, PAGE), (1,))
+        self.refuse((PAGE, INDEX, kind_with(edition=9, letter="q")), (2,))
+
+    def test_editions_do_not_fall(self):
+        self.take((kind_with(name="a", edition=5), kind_with(name="b", edition=5), kind_with(name="c", edition=99)))
+        self.refuse((kind_with(name="a", edition=5), kind_with(name="b", edition=4)), (1,))
+        three = (kind_with(name="a", edition=1), kind_with(name="b", edition=9), kind_with(name="c", edition=8))
+        self.refuse(three, (2,))
+
+    def test_bases_stand_ahead(self):
+        self.refuse((kind_with(bases=("page",)),), (0,))
+        self.refuse((kind_with(bases=("index",)), kind_with(name="index")), (0,))
+        self.refuse((PAGE, kind_with(name="a", bases=("page", "nowhere"))), (1,))
+        self.refuse((INDEX, SUM), (0,))
+        self.refuse((PAGE, SUM), (1,))
+
+    def test_first_wrong_kind_is_told(self):
+        wrong = ((PAGE, PAGE), (kind_with(bases=("index",)),), (kind_with(edition=0),), (None,))
+        for tail in wrong:
+            self.refuse((PAGE, None) + tail, (1,))
+            self.refuse((PAGE, PAGE) + tail, (1,))
+            self.refuse((PAGE, INDEX, PAGE) + tail, (2,))
+            self.refuse((INDEX,) + tail, (0,))
+        self.refuse((PAGE, kind_with(name="b", edition=9), INDEX, PAGE), (2,))
+        self.refuse(line_of(23) + (None,), (23,))
+        self.refuse(line_of(24) + (None,), ())
+
+
+class Tells(Case):
+    def test_newest(self):
+        self.assertEqual([newest(LAYOUT), newest(LAYOUT[:1]), newest(WIDE)], [3, 1, 4])
+        self.assertEqual(newest((kind_with(edition=99),)), 99)
+
+    def test_names(self):
+        self.assertEqual(names(LAYOUT), ("page", "index", "sum"))
+        self.assertEqual(names(LAYOUT[:1]), ("page",))
+        self.assertEqual(names((kind_with(name="z"), kind_with(name="a"))), ("z", "a"))
+
+    def test_known(self):
+        self.assertEqual([known(LAYOUT, edition) for edition in (1, 2, 3)],
+                         [("page",), ("page", "index"), ("page", "index", "sum")])
+        self.assertEqual([known(WIDE, edition) for edition in (1, 2, 3, 4)],
+                         [tuple("ab"), tuple("abcd"), tuple("abcd"), tuple("abcdef")])
+        self.assertEqual(known((kind_with(edition=5),), 4), ())
+
+    def test_edition_of_a_program(self):
+        for layout in (LAYOUT, (kind_with(edition=99),), (kind_with(edition=1),)):
+            for thing in things():
+                with self.subTest(layout=layout, thing=thing):
+                    if is_whole(thing, 1, layout[-1][1]):
+                        known(layout, thing)
+                        continue
+                    with self.assertRaises(BadDeed) as caught:
+                        known(layout, thing)
+                    self.assertEqual(caught.exception.word, "edition")
+        for edition in (0, 4, 99, -1, True):
+            with self.assertRaises(BadDeed):
+                known(LAYOUT, edition)
+
+    def test_what_a_program_knows_is_closed(self):
+        for layout in some_layouts(60):
+            for edition in range(1, newest(layout) + 1):
+                told = known(layout, edition)
+                for name in told:
+                    self.assertLessEqual(set(beneath(layout, name)), set(told))
+
+    def test_beneath(self):
+        self.assertEqual([beneath(LAYOUT, name) for name in names(LAYOUT)], [(), ("page",), ("page", "index")])
+        self.assertEqual([beneath(WIDE, name) for name in names(WIDE)],
+                         [(), (), ("b",), ("a", "b"), ("a", "b", "d"), ()])
+
+    def test_above(self):
+        self.assertEqual([above(LAYOUT, name) for name in names(LAYOUT)], [("index", "sum"), ("sum",), ()])
+        self.assertEqual([above(WIDE, name) for name in names(WIDE)],
+                         [("d", "e"), ("c", "d", "e"), (), ("e",), (), ()])
+
+    def test_sources(self):
+        self.assertEqual([sources(LAYOUT, name) for name in names(LAYOUT)], [(), ("page",), ("page",)])
+        self.assertEqual([sources(WIDE, name) for name in names(WIDE)],
+                         [(), (), ("b",), ("a", "b"), ("a", "b"), ()])
+
+    def test_older(self):
+        self.assertIs(is_older(LAYOUT, "page", "index"), True)
+        self.assertIs(is_older(LAYOUT, "index", "page"), False)
+        self.assertIs(is_older(LAYOUT, "page", "page"), False)
+        self.assertIs(is_older(WIDE, "a", "b"), False)
+        self.assertIs(is_older(WIDE, "b", "f"), True)
+
+    def test_watches(self):
+        """[10]: only what is OLDER is watched, beneath or not."""
+        self.assertEqual([watches(LAYOUT, name) for name in names(LAYOUT)], [(), ("page",), ("page", "index")])
+        self.assertEqual([watches(WIDE, name) for name in names(WIDE)],
+                         [(), (), ("a", "b"), (), ("a", "b", "c", "d"), ("a", "c")])
+
+    def test_minds(self):
+        """[17]: whatever the EDITIONs, but another KIND."""
+        self.assertEqual([minds(LAYOUT, name) for name in names(LAYOUT)], [(), ("page",), ("page", "index")])
+        self.assertEqual([minds(WIDE, name) for name in names(WIDE)],
+                         [(), ("a", "c", "d"), ("a", "b"), (), ("a", "b", "c", "d"), ("a", "c", "e")])
+        self.assertEqual(minds((kind_with(mark="p"),), "page"), ())
+
+    def test_against_plain_search(self):
+        for layout in some_layouts(200):
+            order = [kind[0] for kind in layout]
+            by_name = dict(zip(order, layout))
+
+            def reached(name):
+                return {name}.union(*[reached(base) for base in by_name[name][2]])
+
+            for name in order:
+                kind = by_name[name]
+                below = tuple([other for other in order if other in reached(name) and other != name])
+                self.assertEqual(beneath(layout, name), below)
+                self.assertEqual(sources(layout, name), tuple([other for other in below if not by_name[other][2]]))
+                over = [other for other in order if name in reached(other) and other != name]
+                self.assertEqual(above(layout, name), tuple(over))
+                seen = [other for other in order if by_name[other][3] in kind[4]]
+                self.assertEqual(watches(layout, name), tuple([k for k in seen if by_name[k][1] < kind[1]]))
+                self.assertEqual(minds(layout, name), tuple([k for k in seen if k != name]))
+                for other in order:
+                    self.assertIs(is_older(layout, name, other), kind[1] < by_name[other][1])
+
+    def test_largest_layout_is_quick(self):
+        """Each KIND is made from the six ahead of it, so there are very many ways down."""
+        layout = line_of(6)
+        for at in range(6, 24):
+            layout += ((LETTERS[at], 1, names(layout)[-6:], "a", ""),)
+        self.assertEqual(beneath(layout, "x"), names(layout)[:-1])
+        self.assertEqual(sources(layout, "x"), names(layout)[:6])
+        self.assertEqual(above(layout, "kf"), names(layout)[6:])
+
+
+class Errors(Case):
+    """[1] and the interface: which errors come, and which first."""
+
+    def test_no_layout_is_refused_first(self):
+        bad = (None, True, 5, "page", b"", [], {}, set(), (), object(), list(LAYOUT))
+        calls = [newest, names]
+        for other in (None, "page", "nowhere", [], {}, object()):
+            calls.append(lambda layout, other=other: known(layout, other))
+            calls.append(lambda layout, other=other: is_older(layout, other, other))
+            for call in ONE_NAME:
+                calls.append(lambda layout, other=other, call=call: call(layout, other))
+        for call in calls:
+            for layout, place in [(thing, ()) for thing in bad] + [((PAGE, PAGE), (1,)), ((None,), (0,))]:
+                with self.assertRaises(BadLayout) as caught:
+                    call(layout)
+                self.assertEqual(caught.exception.place, place)
+
+    def test_missing_names(self):
+        for thing in things():
+            if is_text(thing, "page|index"):
+                continue
+            calls = [lambda call=call: call(LAYOUT, thing) for call in ONE_NAME]
+            calls.append(lambda: is_older(LAYOUT, thing, "page"))
+            calls.append(lambda: is_older(LAYOUT, "page", thing))
+            for call in calls:
+                with self.subTest(thing=thing), self.assertRaises(Missing) as caught:
+                    call()
+                self.assertIs(caught.exception.name, thing)
+
+    def test_first_of_two_names_is_told(self):
+        for one, other in (("x", "y"), ("y", "x"), (["x"], None), (None, {})):
+            with self.assertRaises(Missing) as caught:
+                is_older(LAYOUT, one, other)
+            self.assertIs(caught.exception.name, one)
+
+
+class Calls(Case):
+    """[1], what holds for every call."""
+
+    def test_nothing_passed_is_changed(self):
+        for thing in ([list(PAGE)], {"page": [1]}, [PAGE], (["page", 1, [], "p", ""],)):
+            ahead = copy.deepcopy(thing)
+            self.assertFalse(is_layout(thing))
+            with self.assertRaises(Missing):
+                beneath(LAYOUT, thing)
+            with self.assertRaises(BadDeed):
+                known(LAYOUT, thing)
+            self.assertEqual(thing, ahead)
+
+    def test_equal_calls_return_equal_results(self):
+        same = tuple([tuple(list(kind)) for kind in WIDE])
+        for name in names(WIDE):
+            for call in ONE_NAME:
+                told = call(WIDE, name)
+                self.assertIs(type(told), tuple)
+                self.assertEqual(told, call(WIDE, name))
+                self.assertEqual(told, call(same, "".join(list(name))))
+        self.assertEqual(known(WIDE, 2), known(same, 2))
+
+    def test_what_was_passed_before_has_no_effect(self):
+        other = (("page", 1, (), "p", ""), ("index", 1, (), "q", ""))
+        self.assertEqual((beneath(LAYOUT, "index"), beneath(other, "index"), beneath(LAYOUT, "index")),
+                         (("page",), (), ("page",)))
+        self.assertFalse(is_layout((PAGE, PAGE)))
+        self.assertTrue(is_layout(LAYOUT))
+
+
+class Examples(Case):
+    def test_beneath_and_watches(self):
+        layout = (("page", 1, (), "p", ""), ("index", 2, ("page",), "i", "p"), ("sum", 3, ("index",), "s", "ip"))
+        self.assertEqual((beneath(layout, "sum"), watches(layout, "index")), (("page", "index"), ("page",)))
+
+    def test_layouts_of_the_other_examples(self):
+        self.take((("page", 1, (), "p", ""), ("index", 2, ("page",), "i", "")))
+        self.take((("a", 1, (), "x", ""), ("b", 1, (), "x", "")))
+
+
+if __name__ == "__main__":
+    unittest.main()
