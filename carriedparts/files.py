@@ -1,97 +1,122 @@
 """FILEs: the parts that stand in them, and whether these are CURRENT."""
 
 from carriedparts.errors import BadFile, Missing
-from carriedparts.layouts import BASES, MOST_KINDS, NAME, is_whole, need_kind, need_layout, source_names
+from carriedparts.layouts import BASES, MOST_KINDS, NAME, numbered
 
 MOST_CONTENT = 999999
 
 
-def is_number(thing):
-    """Whether a thing is an integer that can be the CONTENT of a part of a source."""
-    return is_whole(thing, 0, MOST_CONTENT)
+def _sources_of_all(layout):
+    """A dict from the NAMEs of a LAYOUT that was looked at before to the tuples of their SOURCES."""
+    bits = {}
+    every_source = []
+    # Many KINDs have the same SOURCES; as bits of a number these are quickly joined and found again.
+    by_bits = {0: ()}
+    told = {}
+    for kind in layout:
+        name = kind[NAME]
+        below = 0
+        for base in kind[BASES]:
+            below |= bits[base]
+        if below not in by_bits:
+            by_bits[below] = tuple([source for at, source in enumerate(every_source) if below >> at & 1])
+        told[name] = by_bits[below]
+        if not kind[BASES]:
+            below = 1 << len(every_source)
+            every_source.append(name)
+        bits[name] = below
+    return told
 
 
-def is_content(layout, kind, thing):
+class Table:
+    """What a LAYOUT tells of the parts of its FILEs, by NAMEs; BadLayout of what is none."""
+
+    def __init__(self, layout):
+        self.numbers = numbered(layout)
+        self.bases = {kind[NAME]: kind[BASES] for kind in layout}
+        self.sources = _sources_of_all(layout)
+
+
+def are_contents(things):
+    """Whether each of the things is an integer that can be the CONTENT of a part of a source."""
+    for thing in things:
+        # To Python True and False are integers, too.
+        if not isinstance(thing, int) or thing is True or thing is False or not 0 <= thing <= MOST_CONTENT:
+            return False
+    return True
+
+
+def _is_content(table, name, thing):
     """Whether a thing can be the CONTENT of a part of a KIND."""
-    if not kind[BASES]:
-        return is_number(thing)
-    if not isinstance(thing, tuple) or len(thing) != len(source_names(layout, kind[NAME])):
-        return False
-    return all([is_number(number) for number in thing])
+    many = len(table.sources[name])
+    if many == 0:
+        return are_contents((thing,))
+    return isinstance(thing, tuple) and len(thing) == many and are_contents(thing)
 
 
-def part_number(layout, thing):
-    """The number, in order, of the KIND of which a thing is a part, by itself; None if it is no part."""
-    if not isinstance(thing, tuple) or len(thing) != 2:
-        return None
-    name, content = thing
-    # What is no string is not compared: an object may claim to be equal to any NAME.
-    if not isinstance(name, str):
-        return None
-    for number, kind in enumerate(layout):
-        if kind[NAME] == name and is_content(layout, kind, content):
-            return number
-    return None
-
-
-def _wrong_place(layout, thing):
-    """The place at which a thing is no FILE of a LAYOUT; None of a FILE."""
+def _need_parts(table, thing):
+    """The thing itself, if it is a FILE of the LAYOUT of a table."""
     if not isinstance(thing, tuple) or len(thing) > MOST_KINDS:
-        return ()
+        raise BadFile(())
     ahead = -1
     for at, part in enumerate(thing):
-        number = part_number(layout, part)
-        if number is None or number <= ahead:
-            return (at,)
-        ahead = number
-    return None
+        if not isinstance(part, tuple) or len(part) != 2:
+            raise BadFile((at,))
+        name, content = part
+        # What is no string is not looked up: it may be no key, or claim to be equal to any NAME.
+        if not isinstance(name, str) or table.numbers.get(name, -1) <= ahead:
+            raise BadFile((at,))
+        if not _is_content(table, name, content):
+            raise BadFile((at,))
+        ahead = table.numbers[name]
+    return thing
 
 
 def need_file(layout, thing):
     """The thing itself, if it is a FILE of the LAYOUT."""
-    need_layout(layout)
-    place = _wrong_place(layout, thing)
-    if place is not None:
-        raise BadFile(place)
-    return thing
+    return _need_parts(Table(layout), thing)
 
 
-def fresh_content(layout, contents, name):
+def fresh_content(table, contents, name):
     """The CONTENT of a made kind, if a part is made of it from what a dict of CONTENTs has of its SOURCES."""
-    return tuple([contents[source] for source in source_names(layout, name)])
+    return tuple([contents[source] for source in table.sources[name]])
 
 
-def current_parts(layout, file):
-    """A dict from the NAMEs of the parts, in order, to whether they are CURRENT, of what was looked at before."""
-    contents = dict(file)
-    told = {}
-    for name, content in file:
-        bases = need_kind(layout, name)[BASES]
-        # BASES stand ahead of what is made from them, so what is to be told of them is told already.
-        current = all([told.get(base, False) for base in bases])
-        if bases and current:
-            current = content == fresh_content(layout, contents, name)
-        told[name] = current
-    return told
+def would_be_current(table, contents, current, name, content):
+    """Whether a part is CURRENT beside parts with these CONTENTs, those in the dict current being CURRENT."""
+    for base in table.bases[name]:
+        if base not in current:
+            return False
+    return not table.bases[name] or content == fresh_content(table, contents, name)
+
+
+def current_names(table, contents):
+    """A dict of the NAMEs of those of the parts with these CONTENTs that are CURRENT, to True."""
+    current = {}
+    # BASES stand ahead of what is made from them, so what is to be told of them is told already.
+    for name in table.bases:
+        if name in contents and would_be_current(table, contents, current, name, contents[name]):
+            current[name] = True
+    return current
 
 
 def is_current(layout, file, name):
     """Whether the part of a KIND is CURRENT in a FILE."""
-    need_file(layout, file)
-    told = current_parts(layout, file)
-    if not isinstance(name, str) or name not in told:
+    table = Table(layout)
+    contents = dict(_need_parts(table, file))
+    if not isinstance(name, str) or name not in contents:
         raise Missing(name)
-    return told[name]
+    return name in current_names(table, contents)
 
 
 def stale(layout, file):
     """The NAMEs, in order, of the parts of a FILE that are not CURRENT."""
-    need_file(layout, file)
-    told = current_parts(layout, file)
-    return tuple([name for name, current in told.items() if not current])
+    table = Table(layout)
+    contents = dict(_need_parts(table, file))
+    current = current_names(table, contents)
+    return tuple([name for name in contents if name not in current])
 
 
 def is_sound(layout, file):
     """Whether all parts of a FILE are CURRENT."""
-    need_file(layout, file)
-    return all(list(current_parts(layout, file).values()))
+    return stale(layout, file) == ()

@@ -1,13 +1,14 @@
 """Tests of carriedparts.layouts."""
 
 import copy
+import random
 import unittest
 
 from carriedparts import layouts
 from carriedparts.errors import BadDeed, BadLayout, Missing
 from carriedparts.layouts import above, beneath, is_layout, is_older, known, minds, names, need_layout, newest
 from carriedparts.layouts import sources, watches
-from things import INDEX, LAYOUT, LETTERS, PAGE, SUM, WIDE
+from things import DEEP, INDEX, LAYOUT, LETTERS, PAGE, SUM, WIDE
 from things import is_text, is_whole, line_of, some_layouts, things, with_item
 
 ONE_NAME = (beneath, above, sources, watches, minds)
@@ -178,6 +179,69 @@ class Together(Case):
         self.refuse((PAGE, kind_with(name="b", edition=9), INDEX, PAGE), (2,))
         self.refuse(line_of(23) + (None,), (23,))
         self.refuse(line_of(24) + (None,), ())
+
+    def test_signs_of_each_name_and_mark(self):
+        """Each of them is looked at, wherever it stands and whatever stands beside it."""
+        for at in range(24):
+            name, edition, bases, letter, mark = DEEP[at]
+            for wrong in ("abcdef" + sign + "x" for sign in "`{A1 \n-~"):
+                renamed = [kind[:2] + ((),) + kind[3:] for kind in DEEP]
+                renamed[at] = (wrong, edition, (), letter, mark)
+                self.refuse(tuple(renamed), (at,))
+            for wrong in ("ba", "aa", "abcb", "`", "`a", "a`b", "{", "z{", "yz{", "A", "aB", " ", "a b", "~", "zz"):
+                self.refuse(with_item(DEEP, at, DEEP[at][:4] + (wrong,)), (at,))
+            for right in ("", "a", "z", "az", "by", LETTERS):
+                self.take(with_item(DEEP, at, DEEP[at][:4] + (right,)))
+
+    def test_marks_of_all_lengths(self):
+        for many in range(1, 25):
+            for marks in ((LETTERS,) * many, ("",) * many, ("z", "a", "") * 8, ("az", LETTERS, "m") * 8):
+                self.take(tuple([("k" + LETTERS[at], 1, (), "a", marks[at]) for at in range(many)]))
+
+    def test_first_of_wrong_signs_and_wrong_forms_is_told(self):
+        signs = [kind_with(name="A"), kind_with(name="b", mark="ba"), kind_with(name="c", letter="C")]
+        forms = [None, PAGE, kind_with(name="b", edition=0), kind_with(name="c", bases=("nowhere",)), INDEX[:4]]
+        for one in signs + forms:
+            for other in signs + forms:
+                self.refuse((PAGE, one, other), (1,))
+                self.refuse((PAGE, INDEX, one, SUM, other), (2,))
+                self.refuse((PAGE, INDEX, SUM, one), (3,))
+
+    def test_against_the_words_of_the_document(self):
+        chance = random.Random(11)
+        signs = LETTERS + "`{A1 "
+        for layout in some_layouts(400):
+            kinds = [list(kind) for kind in layout]
+            for _ in range(chance.choice((1, 1, 2))):
+                kind = chance.choice(kinds)
+                member = chance.choice((0, 1, 2, 3, 4, 4))
+                kind[member] = {
+                    0: chance.choice(("", "abcdefghi", chance.choice(kinds)[0], kind[0][:7] + chance.choice(signs))),
+                    1: chance.choice((0, 1, kind[1] + 1, 99, 100, True)),
+                    2: tuple([chance.choice(kinds)[0] for _ in range(chance.randint(0, 7))]),
+                    3: chance.choice(("", "ab") + tuple(signs)),
+                    4: "".join(chance.sample(signs, chance.randint(0, 3))),
+                }[member]
+            changed = tuple([tuple(kind) for kind in kinds])
+            place = place_by_the_words(changed)
+            if place is None:
+                self.take(changed)
+            else:
+                self.refuse(changed, place)
+
+
+def place_by_the_words(layout):
+    """[2], member by member: the place of the first KIND that is wrong, None if there is none."""
+    for at, (name, edition, bases, letter, mark) in enumerate(layout):
+        ahead = [kind[0] for kind in layout[:at]]
+        right = (
+            is_text(name, "[a-z]{1,8}") and name not in ahead and is_whole(edition, 1, 99)
+            and (at == 0 or edition >= layout[at - 1][1])
+            and len(bases) <= 6 and len(set(bases)) == len(bases) and set(bases) <= set(ahead)
+            and is_text(letter, "[a-z]") and is_text(mark, "[a-z]*") and mark == "".join(sorted(set(mark))))
+        if not right:
+            return (at,)
+    return None
 
 
 class Tells(Case):

@@ -21,6 +21,14 @@ WIDE = (
 
 LETTERS = "abcdefghijklmnopqrstuvwxyz"
 
+# As many KINDs as there can be, all of another EDITION, with long NAMEs, three BASES and full MARKs.
+DEEP = tuple([
+    ("abcdefg" + LETTERS[at], 1 + at, tuple(["abcdefg" + sign for sign in LETTERS[max(0, at - 3):at]]),
+     LETTERS[at], LETTERS[:at])
+    for at in range(24)
+])
+DEEP_FILE = (("abcdefga", 5),) + tuple([(kind[0], (5,)) for kind in DEEP[1:]])
+
 
 class Contrary:
     """An object that is equal to everything and cannot be a key."""
