@@ -32,6 +32,7 @@ class Table:
     """What a LAYOUT tells of the parts of its FILEs, by NAMEs; BadLayout of what is none."""
 
     def __init__(self, layout):
+        self.layout = layout
         self.numbers = numbered(layout)
         self.bases = {kind[NAME]: kind[BASES] for kind in layout}
         self.sources = _sources_of_all(layout)
@@ -54,7 +55,7 @@ def _is_content(table, name, thing):
     return isinstance(thing, tuple) and len(thing) == many and are_contents(thing)
 
 
-def _need_parts(table, thing):
+def need_parts(table, thing):
     """The thing itself, if it is a FILE of the LAYOUT of a table."""
     if not isinstance(thing, tuple) or len(thing) > MOST_KINDS:
         raise BadFile(())
@@ -74,7 +75,7 @@ def _need_parts(table, thing):
 
 def need_file(layout, thing):
     """The thing itself, if it is a FILE of the LAYOUT."""
-    return _need_parts(Table(layout), thing)
+    return need_parts(Table(layout), thing)
 
 
 def fresh_content(table, contents, name):
@@ -103,7 +104,7 @@ def current_names(table, contents):
 def is_current(layout, file, name):
     """Whether the part of a KIND is CURRENT in a FILE."""
     table = Table(layout)
-    contents = dict(_need_parts(table, file))
+    contents = dict(need_parts(table, file))
     if not isinstance(name, str) or name not in contents:
         raise Missing(name)
     return name in current_names(table, contents)
@@ -112,7 +113,7 @@ def is_current(layout, file, name):
 def stale(layout, file):
     """The NAMEs, in order, of the parts of a FILE that are not CURRENT."""
     table = Table(layout)
-    contents = dict(_need_parts(table, file))
+    contents = dict(need_parts(table, file))
     current = current_names(table, contents)
     return tuple([name for name in contents if name not in current])
 

@@ -21,7 +21,24 @@ INTERFACE = {
         "need_file": "layout thing", "is_current": "layout file name", "stale": "layout file",
         "is_sound": "layout file",
     },
+    "programs": {
+        "done": "layout edition file deed", "need_row": "layout thing", "played": "layout row",
+    },
+    "judging": {
+        "gaps": "layout", "wastes": "layout", "is_safe": "layout", "is_sparing": "layout", "is_exact": "layout",
+        "cost": "layout name other", "unsound_row": "layout", "vain_row": "layout",
+    },
+    "marks": {"careful": "layout", "splits": "layout", "exact": "layout"},
+    "letters": {
+        "are_alike": "one other", "parting_row": "one other", "columns": "layout", "can_share": "layout name other",
+        "fewest": "layout", "unlike": "layout",
+    },
 }
+CONSTANTS = {
+    ("layouts", "MOST_KINDS"): 24, ("layouts", "MOST_BASES"): 6, ("layouts", "MOST_EDITION"): 99,
+    ("files", "MOST_CONTENT"): 999999, ("programs", "MOST_STEPS"): 400,
+}
+GENERATORS = (("judging", "gaps"), ("judging", "wastes"), ("marks", "splits"))
 
 
 class Interface(unittest.TestCase):
@@ -32,6 +49,11 @@ class Interface(unittest.TestCase):
                     found = getattr(importlib.import_module("carriedparts." + module), name)
                     self.assertEqual(found.__module__, "carriedparts." + module)
                     self.assertEqual(list(inspect.signature(found).parameters), arguments.split())
+                    self.assertEqual(inspect.isgeneratorfunction(found), (module, name) in GENERATORS)
+
+    def test_constants(self):
+        for (module, name), value in CONSTANTS.items():
+            self.assertEqual(getattr(importlib.import_module("carriedparts." + module), name), value)
 
 
 class Form(unittest.TestCase):

@@ -4,18 +4,22 @@ import time
 import unittest
 
 from carriedparts.files import is_current, is_sound, need_file, stale
+from carriedparts.judging import cost, gaps, is_exact, is_safe, is_sparing, unsound_row, vain_row, wastes
 from carriedparts.layouts import above, beneath, is_layout, is_older, names, need_layout, sources, watches
-from things import DEEP, DEEP_FILE, with_item
+from carriedparts.letters import are_alike, can_share, columns, fewest, parting_row, unlike
+from carriedparts.marks import careful, exact, splits
+from carriedparts.programs import done, played
+from things import DEEP, DEEP_FILE, LETTERS, with_item
 
 CALLS = 200
 MOST_SECONDS = 0.5
 
 
 class Speed(unittest.TestCase):
-    def within(self, call):
+    def within(self, call, calls=CALLS):
         # The time of this process alone: what else a machine is doing does not count.
         start = time.process_time()
-        for _ in range(CALLS):
+        for _ in range(calls):
             call()
         self.assertLess(time.process_time() - start, MOST_SECONDS)
 
@@ -39,6 +43,25 @@ class Speed(unittest.TestCase):
         wrong = with_item(DEEP, 23, DEEP[23][:4] + ("ba",))
         self.assertIs(is_layout(wrong), False)
         self.within(lambda: is_layout(wrong))
+
+    def test_programs(self):
+        for edition in (1, 24):
+            self.within(lambda: done(DEEP, edition, DEEP_FILE, ("set", "abcdefga", 6)), 50)
+        row = tuple([(24, ("set", "abcdefga", at)) for at in range(20)])
+        self.within(lambda: played(DEEP, row), 50)
+
+    def test_judgements(self):
+        """Of any MARKs: the given ones, none, all."""
+        for mark in (None, "", LETTERS):
+            layout = tuple([kind[:4] + (kind[4] if mark is None else mark,) for kind in DEEP])
+            for call in (is_safe, is_sparing, is_exact, unsound_row, vain_row, careful, exact, columns, fewest, unlike):
+                self.within(lambda: call(layout), 50)
+            for call in (gaps, wastes, splits):
+                self.within(lambda: list(call(layout)), 50)
+            for call in (are_alike, parting_row):
+                self.within(lambda: call(DEEP, layout), 50)
+            for call in (cost, can_share):
+                self.within(lambda: call(layout, "abcdefga", "abcdefgx"), 50)
 
 
 if __name__ == "__main__":

@@ -70,16 +70,47 @@ def line_of(many):
     return tuple([("k" + LETTERS[at], 1, (), "a", "") for at in range(many)])
 
 
-def some_layouts(many):
+def refusals():
+    """What is no LAYOUT, each with the place at which it is refused."""
+    bad = [(thing, ()) for thing in (None, True, 5, "page", b"", [], {}, set(), (), object(), Contrary(), list(LAYOUT))]
+    return bad + [((PAGE,) * 25, ()), ((None,), (0,)), ((PAGE, PAGE), (1,)), ((PAGE, INDEX, PAGE[:4]), (2,))]
+
+
+def some_layouts(many, most=9, seed=7):
     """LAYOUTs of several sizes, always the same ones."""
-    chance = random.Random(7)
+    chance = random.Random(seed)
     for _ in range(many):
         layout = []
         edition = 1
-        for at in range(chance.randint(1, 9)):
+        for at in range(chance.randint(1, most)):
             edition += chance.choice((0, 0, 1, 2))
             ahead = [kind[0] for kind in layout]
             bases = chance.sample(ahead, min(len(ahead), chance.choice((0, 0, 1, 1, 2, 3))))
             mark = "".join(sorted(chance.sample("abcd", chance.randint(0, 4))))
             layout.append((LETTERS[-1 - at] * chance.randint(1, 8), edition, tuple(bases), chance.choice("abcd"), mark))
         yield tuple(layout)
+
+
+def altered_layouts(many, most, seed):
+    """LAYOUTs in which each KIND watches just what is OLDER beneath it, but for one KIND and one LETTER."""
+    chance = random.Random(seed)
+    frames = [layout for layout in some_layouts(40 * many, most, seed) if len(layout) == most]
+    for layout in frames[:many]:
+        below = []
+        for _, _, bases, _, _ in layout:
+            own = {at for at, kind in enumerate(layout) if kind[0] in bases}
+            below.append(own.union(*[below[at] for at in own]))
+        changed = chance.randrange(1, most)
+        below[changed] ^= {chance.randrange(changed)}
+        yield tuple([kind[:3] + (LETTERS[at], "".join([LETTERS[other] for other in sorted(below[at])]))
+                     for at, kind in enumerate(layout)])
+
+
+def some_file(chance, layout, many_sources):
+    """A FILE of a LAYOUT, SOUND or not; many_sources tells how many SOURCES a NAME has."""
+    parts = []
+    for name, _, bases, _, _ in layout:
+        numbers = [chance.choice((0, 1, 1, 1, 999999)) for _ in range(many_sources(name))]
+        if chance.random() < 0.75:
+            parts.append((name, tuple(numbers) if bases else chance.choice((0, 1, 999999))))
+    return tuple(parts)

@@ -1,0 +1,66 @@
+"""Sets of KINDs as bits of a number, the bit 1 << N for the KIND with the number N in order.
+
+All functions here take a LAYOUT that was looked at before, or what others of them have told of it.
+"""
+
+from carriedparts.layouts import BASES, EDITION, LETTER, MARK, NAME
+
+
+def beneath_bits(layout):
+    """A list of the KINDs beneath each KIND."""
+    reached = {}
+    told = []
+    for at, kind in enumerate(layout):
+        below = 0
+        for base in kind[BASES]:
+            below |= reached[base]
+        reached[kind[NAME]] = below | 1 << at
+        told.append(below)
+    return told
+
+
+def older_bits(layout):
+    """A list of the KINDs that are OLDER than each KIND."""
+    told = []
+    edition = 0
+    older = 0
+    for at, kind in enumerate(layout):
+        # KINDs of the same EDITION are not OLDER than each other.
+        if kind[EDITION] > edition:
+            edition = kind[EDITION]
+            older = (1 << at) - 1
+        told.append(older)
+    return told
+
+
+def letter_bits(layout):
+    """A dict from the LETTERs, ascending, to the KINDs that have them."""
+    letters = sorted({kind[LETTER] for kind in layout})
+    told = {letter: 0 for letter in letters}
+    for at, kind in enumerate(layout):
+        told[kind[LETTER]] |= 1 << at
+    return told
+
+
+def watched_bits(layout):
+    """A list of the KINDs that each KIND watches."""
+    by_letter = letter_bits(layout)
+    told = []
+    for kind, older in zip(layout, older_bits(layout)):
+        mark = kind[MARK]
+        marked = 0
+        for letter, bits in by_letter.items():
+            if letter in mark:
+                marked |= bits
+        told.append(marked & older)
+    return told
+
+
+def bit_pairs(rows):
+    """The pairs of numbers (U, K), in order of U, then of K, such that the bit of K is set in the row of U."""
+    return [(at, bit) for at, row in enumerate(rows) for bit in range(row.bit_length()) if row >> bit & 1]
+
+
+def many_bits(bits):
+    """How many bits are set."""
+    return f"{bits:b}".count("1")
