@@ -83,6 +83,7 @@ def cheapest_row(layout, rows):
     newest = layout[-1][EDITION]
     steps = [(newest, _first_deed(kind)) for number, kind in enumerate(layout) if needed >> number & 1]
     last = layout[bit]
+    # If K is beneath U, it stands by now; if not, it does not, but all beneath it do.
     deed = ("drop", last[NAME]) if needed >> bit & 1 else _first_deed(last)
     return tuple(steps) + ((last[EDITION], deed),)
 
