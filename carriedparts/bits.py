@@ -3,20 +3,12 @@
 All functions here take a LAYOUT that was looked at before, or what others of them have told of it.
 """
 
-from carriedparts.layouts import BASES, EDITION, LETTER, MARK, NAME
+from carriedparts.layouts import EDITION, LETTER, MARK
 
 
-def beneath_bits(layout):
-    """A list of the KINDs beneath each KIND."""
-    reached = {}
-    told = []
-    for at, kind in enumerate(layout):
-        below = 0
-        for base in kind[BASES]:
-            below |= reached[base]
-        reached[kind[NAME]] = below | 1 << at
-        told.append(below)
-    return told
+def beneath_bits(reached):
+    """A list of the KINDs beneath each KIND, by what reached_bits has told."""
+    return [bits ^ 1 << at for at, bits in enumerate(reached.values())]
 
 
 def older_bits(layout):
@@ -42,18 +34,23 @@ def letter_bits(layout):
     return told
 
 
-def watched_bits(layout):
-    """A list of the KINDs that each KIND watches."""
+def marked_bits(layout):
+    """A list of the KINDs whose LETTERs are in the MARK of each KIND, of any EDITION, the KIND itself among them."""
     by_letter = letter_bits(layout)
     told = []
-    for kind, older in zip(layout, older_bits(layout)):
+    for kind in layout:
         mark = kind[MARK]
         marked = 0
         for letter, bits in by_letter.items():
             if letter in mark:
                 marked |= bits
-        told.append(marked & older)
+        told.append(marked)
     return told
+
+
+def watched_bits(layout):
+    """A list of the KINDs that each KIND watches."""
+    return [marked & older for marked, older in zip(marked_bits(layout), older_bits(layout))]
 
 
 def bit_pairs(rows):

@@ -1,123 +1,165 @@
 """FILEs: the parts that stand in them, and whether these are CURRENT."""
 
+from carriedparts.bits import many_bits
 from carriedparts.errors import BadFile, Missing
-from carriedparts.layouts import BASES, MOST_KINDS, NAME, numbered
+from carriedparts.layouts import MOST_KINDS, is_one_bit, reached_bits
 
 MOST_CONTENT = 999999
-
-
-def _sources_of_all(layout):
-    """A dict from the NAMEs of a LAYOUT that was looked at before to the tuples of their SOURCES."""
-    bits = {}
-    every_source = []
-    # Many KINDs have the same SOURCES; as bits of a number these are quickly joined and found again.
-    by_bits = {0: ()}
-    told = {}
-    for kind in layout:
-        name = kind[NAME]
-        below = 0
-        for base in kind[BASES]:
-            below |= bits[base]
-        if below not in by_bits:
-            by_bits[below] = tuple([source for at, source in enumerate(every_source) if below >> at & 1])
-        told[name] = by_bits[below]
-        if not kind[BASES]:
-            below = 1 << len(every_source)
-            every_source.append(name)
-        bits[name] = below
-    return told
-
-
-class Table:
-    """What a LAYOUT tells of the parts of its FILEs, by NAMEs; BadLayout of what is none."""
-
-    def __init__(self, layout):
-        self.layout = layout
-        self.numbers = numbered(layout)
-        self.bases = {kind[NAME]: kind[BASES] for kind in layout}
-        self.sources = _sources_of_all(layout)
 
 
 def are_contents(things):
     """Whether each of the things is an integer that can be the CONTENT of a part of a source."""
     for thing in things:
-        # To Python True and False are integers, too.
-        if not isinstance(thing, int) or thing is True or thing is False or not 0 <= thing <= MOST_CONTENT:
-            return False
+        if not isinstance(thing, int) or not 1 < thing <= MOST_CONTENT:
+            # To Python True and False are integers, too.
+            if not isinstance(thing, int) or thing is True or thing is False or not 0 <= thing <= 1:
+                return False
     return True
 
 
-def _is_content(table, name, thing):
-    """Whether a thing can be the CONTENT of a part of a KIND."""
-    many = len(table.sources[name])
-    if many == 0:
-        return are_contents((thing,))
-    return isinstance(thing, tuple) and len(thing) == many and are_contents(thing)
+def _contents_ahead(reached, parts):
+    """What need_parts tells of the parts ahead of the first wrong one, and all numbers in them, whatever these are."""
+    roots = 0
+    for bits in reached.values():
+        # What a source reaches is one bit alone.
+        if bits & bits - 1 == 0:
+            roots |= bits
+    # Many KINDs have the same SOURCES, which are counted once.
+    many = {}
+    contents = {}
+    numbers = []
+    ahead = 0
+    try:
+        for part in parts:
+            if not isinstance(part, tuple) or len(part) != 2:
+                break
+            name, content = part
+            # What is no string is not looked up: it may be no key, or claim to be equal to any NAME.
+            if not isinstance(name, str) or reached[name] <= ahead:
+                break
+            # The highest bit is that of the KIND itself, so what stands behind it in order has a greater number.
+            ahead = reached[name]
+            below = ahead & roots
+            if below == ahead:
+                numbers.append(content)
+            else:
+                if below not in many:
+                    many[below] = many_bits(below)
+                if not isinstance(content, tuple) or len(content) != many[below]:
+                    break
+                numbers += content
+            contents[name] = content
+    except KeyError:
+        # The part of no KIND of the LAYOUT is the first wrong one.
+        return contents, numbers
+    return contents, numbers
 
 
-def need_parts(table, thing):
-    """The thing itself, if it is a FILE of the LAYOUT of a table."""
+def need_parts(reached, thing):
+    """A dict from the NAMEs to the CONTENTs of a FILE of a LAYOUT, of which reached_bits has told."""
     if not isinstance(thing, tuple) or len(thing) > MOST_KINDS:
         raise BadFile(())
-    ahead = -1
-    for at, part in enumerate(thing):
-        if not isinstance(part, tuple) or len(part) != 2:
-            raise BadFile((at,))
-        name, content = part
-        # What is no string is not looked up: it may be no key, or claim to be equal to any NAME.
-        if not isinstance(name, str) or table.numbers.get(name, -1) <= ahead:
-            raise BadFile((at,))
-        if not _is_content(table, name, content):
-            raise BadFile((at,))
-        ahead = table.numbers[name]
-    return thing
+    contents, numbers = _contents_ahead(reached, thing)
+    if not are_contents(numbers):
+        for at, (name, content) in enumerate(contents.items()):
+            if not are_contents(content if reached[name] & reached[name] - 1 else (content,)):
+                raise BadFile((at,))
+    if len(contents) < len(thing):
+        raise BadFile((len(contents),))
+    return contents
 
 
 def need_file(layout, thing):
     """The thing itself, if it is a FILE of the LAYOUT."""
-    return need_parts(Table(layout), thing)
+    need_parts(reached_bits(layout), thing)
+    return thing
 
 
-def fresh_content(table, contents, name):
-    """The CONTENT of a made kind, if a part is made of it from what a dict of CONTENTs has of its SOURCES."""
-    return tuple([contents[source] for source in table.sources[name]])
-
-
-def would_be_current(table, contents, current, name, content):
-    """Whether a part is CURRENT beside parts with these CONTENTs, those in the dict current being CURRENT."""
-    for base in table.bases[name]:
-        if base not in current:
-            return False
-    return not table.bases[name] or content == fresh_content(table, contents, name)
-
-
-def current_names(table, contents):
-    """A dict of the NAMEs of those of the parts with these CONTENTs that are CURRENT, to True."""
-    current = {}
-    # BASES stand ahead of what is made from them, so what is to be told of them is told already.
-    for name in table.bases:
-        if name in contents and would_be_current(table, contents, current, name, contents[name]):
-            current[name] = True
+def current_bits(reached, contents):
+    """The bits of those of the parts with these CONTENTs, in order, that are CURRENT."""
+    current = 0
+    roots = 0
+    numbers = []
+    # Many KINDs have the same SOURCES, whose CONTENTs are put together once.
+    fresh = {}
+    for name, content in contents.items():
+        bits = reached[name]
+        left = bits & ~current
+        # If all beneath it is CURRENT, just the bit of the KIND itself is left.
+        if left & left - 1:
+            continue
+        if left == bits:
+            roots |= bits
+            numbers.append((bits, content))
+            current |= bits
+            continue
+        below = bits & roots
+        if below not in fresh:
+            fresh[below] = tuple([number for bit, number in numbers if bit & below])
+        if content == fresh[below]:
+            current |= left
     return current
 
 
 def is_current(layout, file, name):
     """Whether the part of a KIND is CURRENT in a FILE."""
-    table = Table(layout)
-    contents = dict(need_parts(table, file))
+    reached = reached_bits(layout)
+    contents = need_parts(reached, file)
     if not isinstance(name, str) or name not in contents:
         raise Missing(name)
-    return name in current_names(table, contents)
+    wanted = reached[name]
+    if is_one_bit(wanted):
+        return True
+    # Whether it is CURRENT depends on nothing but itself and what is beneath it.
+    needed = {other: content for other, content in contents.items() if reached[other] | wanted == wanted}
+    return current_bits(reached, needed) == wanted
 
 
 def stale(layout, file):
     """The NAMEs, in order, of the parts of a FILE that are not CURRENT."""
-    table = Table(layout)
-    contents = dict(need_parts(table, file))
-    current = current_names(table, contents)
-    return tuple([name for name in contents if name not in current])
+    reached = reached_bits(layout)
+    contents = need_parts(reached, file)
+    current = current_bits(reached, contents)
+    return tuple([name for name in contents if reached[name] & ~current])
 
 
 def is_sound(layout, file):
     """Whether all parts of a FILE are CURRENT."""
     return stale(layout, file) == ()
+
+
+class Table:
+    """What is asked of a LAYOUT again and again while FILEs of it change; BadLayout of what is none."""
+
+    def __init__(self, layout):
+        self.kinds = layout
+        self.reached = reached_bits(layout)
+        self.sources = {name: bits for name, bits in self.reached.items() if is_one_bit(bits)}
+
+
+def fresh_content(table, contents, name):
+    """The CONTENT of a made kind, if a part is made of it from what a dict of CONTENTs has of its SOURCES."""
+    bits = table.reached[name]
+    return tuple([contents[source] for source, bit in table.sources.items() if bits & bit])
+
+
+def in_order(table, contents):
+    """A dict from NAMEs to CONTENTs, in order."""
+    return {name: contents[name] for name in table.reached if name in contents}
+
+
+def file_of(table, contents):
+    """The FILE with the parts of a dict from NAMEs to CONTENTs."""
+    return tuple(in_order(table, contents).items())
+
+
+def back_as_current(table, lost, contents):
+    """The NAMEs of those LOST parts that would be CURRENT if they were put back, each alone, to what contents has."""
+    current = current_bits(table.reached, in_order(table, contents))
+    told = []
+    for name, content in lost.items():
+        # To put a part back alters nothing for what is beneath it, all of which has to be CURRENT.
+        if is_one_bit(table.reached[name] & ~current):
+            if name in table.sources or content == fresh_content(table, contents, name):
+                told.append(name)
+    return told

@@ -7,7 +7,6 @@ MOST_BASES = 6
 MOST_EDITION = 99
 LONGEST_NAME = 8
 LETTERS = "abcdefghijklmnopqrstuvwxyz"
-LONGEST_MARK = 26
 
 # Where the members of a KIND stand in it.
 NAME = 0
@@ -20,9 +19,17 @@ MARK = 4
 _BELOW_LETTERS = "`"
 _ABOVE_LETTERS = "{"
 
-# So many signs have the MARKs of a LAYOUT at most, with one more sign for each; and a number with 1 in as many bytes.
-_MOST_SIGNS = 24 * 27
-_ONES = ((1 << 8 * 24 * 27) - 1) // 255
+# A dict is asked more quickly than a string, and does not have two letters side by side.
+_IS_LETTER = {
+    "a": True, "b": True, "c": True, "d": True, "e": True, "f": True, "g": True, "h": True, "i": True, "j": True,
+    "k": True, "l": True, "m": True, "n": True, "o": True, "p": True, "q": True, "r": True, "s": True, "t": True,
+    "u": True, "v": True, "w": True, "x": True, "y": True, "z": True,
+}
+
+# So many signs of MARKs are looked at together, with one more sign for each MARK, which is enough for 12 of them; and
+# a number with 1 in as many bytes.
+_MOST_SIGNS = 12 * 27
+_ONES = ((1 << 8 * 12 * 27) - 1) // 255
 
 
 def is_whole(thing, least, most):
@@ -33,12 +40,19 @@ def is_whole(thing, least, most):
 
 def _has_letters_alone(text):
     """Whether a string consists of LETTERs, of one at least."""
-    return text.isalpha() and text.islower() and text.isascii()
+    if not text.isascii():
+        return False
+    # Bytes are looked at more quickly than strings.
+    data = text.encode()
+    return data.isalpha() and data.islower()
 
 
 def _are_marks(texts):
-    """Whether strings, at most 24 of at most 26 signs each, are MARKs."""
+    """Whether strings are MARKs."""
     first = _BELOW_LETTERS + _BELOW_LETTERS.join(texts)
+    if len(first) > _MOST_SIGNS:
+        half = len(texts) // 2
+        return half > 0 and _are_marks(texts[:half]) and _are_marks(texts[half:])
     second = _ABOVE_LETTERS.join(texts) + _ABOVE_LETTERS
     if not second.isascii():
         return False
@@ -52,61 +66,79 @@ def _are_marks(texts):
     return left & tops == tops
 
 
-def _are_bases(thing, taken):
-    """Whether a thing can be the BASES of a KIND behind those whose NAMEs a dict has."""
-    if not isinstance(thing, tuple) or len(thing) > MOST_BASES:
-        return False
-    for base in thing:
-        # What is no string is not looked up: it may be no key, or claim to be equal to any NAME.
-        if not isinstance(base, str) or base not in taken:
-            return False
-    return len(thing) < 2 or len(set(thing)) == len(thing)
-
-
-def _names_ahead(kinds):
-    """A dict of the NAMEs ahead of the first KIND that is wrong, whatever signs NAMEs and MARKs have, to numbers."""
-    taken = {}
+def _reached_ahead(kinds):
+    """What reached_bits tells of the KINDs ahead of the first wrong one, whatever signs NAMEs and MARKs have."""
+    reached = {}
+    own = 1
     least = 1
-    for kind in kinds:
-        if not isinstance(kind, tuple) or len(kind) != 5:
-            break
-        name, edition, bases, letter, mark = kind
-        if not isinstance(name, str) or not 1 <= len(name) <= LONGEST_NAME or name in taken:
-            break
-        # To Python True is an integer, too; False is less than each EDITION.
-        if not isinstance(edition, int) or edition is True or not least <= edition <= MOST_EDITION:
-            break
-        if not isinstance(letter, str) or len(letter) != 1 or letter not in LETTERS:
-            break
-        if not isinstance(mark, str) or len(mark) > LONGEST_MARK or not _are_bases(bases, taken):
-            break
-        taken[name] = len(taken)
-        least = edition
-    return taken
+    try:
+        for kind in kinds:
+            if not isinstance(kind, tuple) or len(kind) != 5:
+                break
+            name, edition, bases, letter, mark = kind
+            if not isinstance(name, str) or len(name) > LONGEST_NAME or name in reached:
+                break
+            # To Python True is an integer, too; False is less than each EDITION.
+            if not isinstance(edition, int) or edition is True or not least <= edition <= MOST_EDITION:
+                break
+            if not isinstance(letter, str) or letter not in _IS_LETTER:
+                break
+            if not isinstance(mark, str) or not isinstance(bases, tuple):
+                break
+            bits = own
+            if bases:
+                for base in bases:
+                    # What is no string is not looked up: it may be no key, or claim to be equal to any NAME.
+                    if not isinstance(base, str):
+                        return reached
+                    bits |= reached[base]
+                many = len(bases)
+                if many > 1 and (many > MOST_BASES or len(set(bases)) < many):
+                    break
+            reached[name] = bits
+            own += own
+            least = edition
+    except KeyError:
+        # One of the BASES is no NAME of a KIND ahead, so this KIND is the first wrong one.
+        return reached
+    return reached
 
 
-def numbered(thing):
-    """A dict from the NAMEs of a LAYOUT, in order, to their numbers, from 0; BadLayout of what is none."""
+def reached_bits(thing):
+    """A dict from the NAMEs of a LAYOUT, in order, to bits of what they reach: the KIND itself and all beneath it.
+
+    The bit 1 << N is that of the KIND with the number N in order, from 0. BadLayout of what is no LAYOUT.
+    """
     if not isinstance(thing, tuple) or not 1 <= len(thing) <= MOST_KINDS:
         raise BadLayout(())
-    taken = _names_ahead(thing)
-    right = thing[:len(taken)]
+    reached = _reached_ahead(thing)
+    marks = [kind[MARK] for kind in thing[:len(reached)]]
     # The signs of all NAMEs and MARKs are looked at together; which of them is wrong is asked only if one is.
-    if not _has_letters_alone("".join(taken)) or not _are_marks([kind[MARK] for kind in right]):
-        for at, kind in enumerate(right):
-            if not _has_letters_alone(kind[NAME]) or not _are_marks([kind[MARK]]):
+    if "" in reached or not _has_letters_alone("".join(reached)) or not _are_marks(marks):
+        for at, name in enumerate(reached):
+            if not _has_letters_alone(name) or not _are_marks(marks[at:at + 1]):
                 raise BadLayout((at,))
-    if len(taken) < len(thing):
-        raise BadLayout((len(taken),))
-    return taken
+    if len(reached) < len(thing):
+        raise BadLayout((len(reached),))
+    return reached
 
 
-def need_number(numbers, name):
-    """The number of the KIND with this NAME, by what numbered has told."""
+def need_number(reached, name):
+    """The number of the KIND with this NAME, by what reached_bits has told."""
     # What is no string is not looked up: it may be no key, or claim to be equal to any NAME.
-    if not isinstance(name, str) or name not in numbers:
+    if not isinstance(name, str) or name not in reached:
         raise Missing(name)
-    return numbers[name]
+    return reached[name].bit_length() - 1
+
+
+def names_of(reached, bits):
+    """The NAMEs, in order, of the KINDs with these bits, by what reached_bits has told."""
+    return tuple([name for at, name in enumerate(reached) if bits >> at & 1])
+
+
+def is_one_bit(bits):
+    """Whether just one bit of a number above 0 is set: of what a KIND reaches, whether it is a source."""
+    return bits & bits - 1 == 0
 
 
 def need_edition(layout, edition):
@@ -118,14 +150,14 @@ def need_edition(layout, edition):
 
 def need_layout(thing):
     """The thing itself, if it is a LAYOUT."""
-    numbered(thing)
+    reached_bits(thing)
     return thing
 
 
 def is_layout(thing):
     """Whether a thing is a LAYOUT."""
     try:
-        numbered(thing)
+        reached_bits(thing)
     except BadLayout:
         return False
     return True
@@ -138,63 +170,48 @@ def newest(layout):
 
 def names(layout):
     """The NAMEs of a LAYOUT, in order."""
-    return tuple(numbered(layout))
+    return tuple(reached_bits(layout))
 
 
 def known(layout, edition):
     """The NAMEs, in order, of the KINDs that the program of an EDITION knows."""
-    numbered(layout)
-    need_edition(layout, edition)
+    need_edition(need_layout(layout), edition)
     return tuple([kind[NAME] for kind in layout if kind[EDITION] <= edition])
-
-
-def names_beneath(layout, number):
-    """What beneath tells of the KIND with a number, of a LAYOUT that was looked at before."""
-    # BASES stand ahead of what is made from them, so one way back through the LAYOUT meets all of them.
-    ahead = layout[:number]
-    found = {base: True for base in layout[number][BASES]}
-    for kind in ahead[::-1]:
-        if kind[NAME] in found:
-            for base in kind[BASES]:
-                found[base] = True
-    return tuple([kind[NAME] for kind in ahead if kind[NAME] in found])
 
 
 def beneath(layout, name):
     """The NAMEs, in order, of the KINDs beneath a KIND."""
-    number = need_number(numbered(layout), name)
-    return names_beneath(layout, number)
+    reached = reached_bits(layout)
+    number = need_number(reached, name)
+    return names_of(reached, reached[name] ^ 1 << number)
 
 
 def above(layout, name):
     """The NAMEs, in order, of the KINDs above a KIND."""
-    number = need_number(numbered(layout), name)
-    found = {name: True}
-    for kind in layout[number + 1:]:
-        for base in kind[BASES]:
-            if base in found:
-                found[kind[NAME]] = True
-    return tuple(found)[1:]
+    reached = reached_bits(layout)
+    number = need_number(reached, name)
+    return tuple([other for other, bits in reached.items() if bits >> number & 1 and other != name])
 
 
 def sources(layout, name):
     """The NAMEs, in order, of the SOURCES of a KIND; a source has none."""
-    numbers = numbered(layout)
-    below = names_beneath(layout, need_number(numbers, name))
-    return tuple([other for other in below if not layout[numbers[other]][BASES]])
+    reached = reached_bits(layout)
+    number = need_number(reached, name)
+    below = names_of(reached, reached[name] ^ 1 << number)
+    return tuple([other for other in below if is_one_bit(reached[other])])
 
 
 def is_older(layout, name, other):
     """Whether the KIND name is OLDER than the KIND other."""
-    numbers = numbered(layout)
-    first = layout[need_number(numbers, name)]
-    second = layout[need_number(numbers, other)]
+    reached = reached_bits(layout)
+    first = layout[need_number(reached, name)]
+    second = layout[need_number(reached, other)]
     return first[EDITION] < second[EDITION]
 
 
 def watches(layout, name):
     """The NAMEs, in order, of the KINDs that a KIND watches."""
-    number = need_number(numbered(layout), name)
+    number = need_number(reached_bits(layout), name)
     edition = layout[number][EDITION]
     mark = layout[number][MARK]
     return tuple([kind[NAME] for kind in layout if kind[LETTER] in mark and kind[EDITION] < edition])
@@ -202,6 +219,6 @@ def watches(layout, name):
 
 def minds(layout, name):
     """The NAMEs, in order, of the KINDs that a KIND minds."""
-    number = need_number(numbered(layout), name)
+    number = need_number(reached_bits(layout), name)
     mark = layout[number][MARK]
     return tuple([kind[NAME] for kind in layout if kind[LETTER] in mark and kind[NAME] != name])

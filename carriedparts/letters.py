@@ -3,13 +3,13 @@
 from carriedparts.bits import watched_bits
 from carriedparts.errors import BadQuestion
 from carriedparts.judging import cheapest_row
-from carriedparts.layouts import EDITION, LETTER, LETTERS, NAME, need_number, numbered
+from carriedparts.layouts import EDITION, LETTER, LETTERS, NAME, need_layout, need_number, reached_bits
 
 
 def _differences(one, other):
     """A list of the bits of all K that U watches by one of two LAYOUTs alone, for each U; they have one FRAME."""
-    numbered(one)
-    numbered(other)
+    need_layout(one)
+    need_layout(other)
     if [kind[:LETTER] for kind in one] != [kind[:LETTER] for kind in other]:
         raise BadQuestion("the LAYOUTs have different FRAMEs")
     return [first ^ second for first, second in zip(watched_bits(one), watched_bits(other))]
@@ -22,7 +22,8 @@ def are_alike(one, other):
 
 def parting_row(one, other):
     """A shortest ROW after which other KINDs stand by the one LAYOUT than by the other; None if there is none."""
-    return cheapest_row(one, _differences(one, other))
+    rows = _differences(one, other)
+    return cheapest_row(one, reached_bits(one), rows)
 
 
 def _columns(layout):
@@ -38,15 +39,14 @@ def _columns(layout):
 
 def columns(layout):
     """A dict from the NAMEs, in order, to their COLUMNs."""
-    numbered(layout)
-    return _columns(layout)
+    return _columns(need_layout(layout))
 
 
 def can_share(layout, name, other):
     """Whether two KINDs can have the same LETTER in a LAYOUT that is ALIKE."""
-    numbers = numbered(layout)
-    need_number(numbers, name)
-    need_number(numbers, other)
+    reached = reached_bits(layout)
+    need_number(reached, name)
+    need_number(reached, other)
     told = _columns(layout)
     return told[name].startswith(told[other]) or told[other].startswith(told[name])
 
@@ -76,8 +76,7 @@ def _fewest_letters(layout):
 
 def fewest(layout):
     """A LAYOUT that is ALIKE with the fewest LETTERs."""
-    numbered(layout)
-    letters = _fewest_letters(layout)
+    letters = _fewest_letters(need_layout(layout))
     told = []
     for kind, letter, watched in zip(layout, letters, watched_bits(layout)):
         marked = sorted({other for at, other in enumerate(letters) if watched >> at & 1})
@@ -87,5 +86,4 @@ def fewest(layout):
 
 def unlike(layout):
     """NAMEs, in order, as many as the fewest LETTERs, no two of which can have the same LETTER."""
-    numbered(layout)
-    return tuple(_longest(_columns(layout)).values())
+    return tuple(_longest(_columns(need_layout(layout))).values())

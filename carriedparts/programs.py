@@ -1,8 +1,8 @@
 """Programs: what their DEEDs make of a FILE, one by one and in ROWs."""
 
 from carriedparts.errors import BadDeed, BadRow
-from carriedparts.files import Table, are_contents, current_names, fresh_content, need_parts, would_be_current
-from carriedparts.layouts import BASES, EDITION, LETTER, MARK, NAME, is_whole, names_beneath
+from carriedparts.files import Table, are_contents, back_as_current, current_bits, file_of, fresh_content, need_parts
+from carriedparts.layouts import BASES, EDITION, LETTER, MARK, NAME, is_whole, names_of
 
 MOST_STEPS = 400
 
@@ -19,6 +19,10 @@ def _is_deed(thing):
     return thing[0] == "make" or thing[0] == "drop"
 
 
+def _kind_of(table, name):
+    return table.kinds[table.reached[name].bit_length() - 1]
+
+
 def _all_stand(names, contents):
     for name in names:
         if name not in contents:
@@ -28,16 +32,14 @@ def _all_stand(names, contents):
 
 def _wrong_word(table, contents, edition, deed):
     """The word with which the DEED of an EDITION on parts with these CONTENTs is refused; None if it can be done."""
-    layout = table.layout
-    if not is_whole(edition, 1, layout[-1][EDITION]):
+    if not is_whole(edition, 1, table.kinds[-1][EDITION]):
         return "edition"
     if not _is_deed(deed):
         return "form"
     word, name = deed[0], deed[1]
-    number = table.numbers.get(name, -1)
-    if number < 0 or layout[number][EDITION] > edition:
+    if name not in table.reached or _kind_of(table, name)[EDITION] > edition:
         return "unknown"
-    is_source = not layout[number][BASES]
+    is_source = name in table.sources
     if word == "set":
         return None if is_source else "made"
     if word == "drop":
@@ -46,12 +48,14 @@ def _wrong_word(table, contents, edition, deed):
         return "source"
     if name in contents:
         return "stands"
-    return None if _all_stand(names_beneath(layout, number), contents) else "lacks"
+    # The last one of these is the KIND itself.
+    below = names_of(table.reached, table.reached[name])[:-1]
+    return None if _all_stand(below, contents) else "lacks"
 
 
 def _bring_up_to_date(table, contents, edition):
     """Makes anew what the program of an EDITION knows, or lets it leave."""
-    for kind in table.layout:
+    for kind in table.kinds:
         name = kind[NAME]
         if kind[EDITION] > edition:
             break
@@ -65,7 +69,7 @@ def _bring_up_to_date(table, contents, edition):
 def _lose_marked(table, contents, edition, letter):
     """Lets all parts leave that the program of an EDITION does not know and that have a LETTER in their MARKs."""
     lost = {}
-    for kind in table.layout:
+    for kind in table.kinds:
         if kind[EDITION] > edition and letter in kind[MARK] and kind[NAME] in contents:
             lost[kind[NAME]] = contents.pop(kind[NAME])
     return lost
@@ -83,34 +87,27 @@ def _do(table, contents, edition, deed):
     else:
         del contents[name]
     _bring_up_to_date(table, contents, edition)
-    return _lose_marked(table, contents, edition, table.layout[table.numbers[name]][LETTER])
+    return _lose_marked(table, contents, edition, _kind_of(table, name)[LETTER])
 
 
 def _in_vain(table, ahead, lost, behind):
     """The NAMEs of the LOST parts that are LOST IN VAIN, by the CONTENTs ahead of the deed and behind it."""
     if not lost:
         return ()
-    before = current_names(table, ahead)
-    after = current_names(table, behind)
-    # To put a part back alters nothing for the KINDs beneath it.
-    back = [name for name in lost if would_be_current(table, behind, after, name, lost[name])]
-    return tuple([name for name in back if name in before])
-
-
-def _file_of(table, contents):
-    return tuple([(name, contents[name]) for name in table.numbers if name in contents])
+    before = current_bits(table.reached, ahead)
+    return tuple([name for name in back_as_current(table, lost, behind) if table.reached[name] & ~before == 0])
 
 
 def done(layout, edition, file, deed):
     """The FILE behind a DEED of the program of an EDITION, the NAMEs LOST and those of them LOST IN VAIN."""
     table = Table(layout)
-    ahead = dict(need_parts(table, file))
+    ahead = need_parts(table.reached, file)
     word = _wrong_word(table, ahead, edition, deed)
     if word is not None:
         raise BadDeed(word)
     behind = dict(ahead)
     lost = _do(table, behind, edition, deed)
-    return _file_of(table, behind), tuple(lost), _in_vain(table, ahead, lost, behind)
+    return file_of(table, behind), tuple(lost), _in_vain(table, ahead, lost, behind)
 
 
 def _play(table, row):
@@ -138,4 +135,4 @@ def need_row(layout, thing):
 def played(layout, row):
     """The FILE that a ROW leaves."""
     table = Table(layout)
-    return _file_of(table, _play(table, row))
+    return file_of(table, _play(table, row))

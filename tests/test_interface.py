@@ -75,6 +75,21 @@ class Form(unittest.TestCase):
                 if isinstance(node, ast.FunctionDef):
                     self.assertLessEqual(node.end_lineno - node.lineno + 1, 40, (path, node.name))
 
+    def test_numbers_at_the_top_of_files(self):
+        """None of more than 900 digits, and no shift by more than 3000."""
+        for path in FOLDER.glob("*.py"):
+            module = importlib.import_module("carriedparts." + path.stem)
+            for node in ast.parse(path.read_text(encoding="utf-8")).body:
+                if not isinstance(node, ast.Assign):
+                    continue
+                for part in ast.walk(node):
+                    if isinstance(part, ast.BinOp):
+                        value = eval(compile(ast.Expression(part), str(path), "eval"), vars(module))
+                        self.assertLess(abs(value), 10 ** 900, path)
+                        if isinstance(part.op, ast.LShift):
+                            shift = eval(compile(ast.Expression(part.right), str(path), "eval"), vars(module))
+                            self.assertLessEqual(shift, 3000, path)
+
     def test_imports(self):
         allowed = ("heapq", "math", "itertools")
         for path in FOLDER.glob("*.py"):

@@ -1,6 +1,7 @@
 """Tests of carriedparts.layouts."""
 
 import copy
+import itertools
 import random
 import unittest
 
@@ -169,6 +170,18 @@ class Together(Case):
         self.refuse((INDEX, SUM), (0,))
         self.refuse((PAGE, SUM), (1,))
 
+    def test_an_empty_name_at_each_place(self):
+        for many in (1, 2, 24):
+            for at in range(many):
+                layout = line_of(many)
+                self.refuse(with_item(layout, at, ("",) + layout[at][1:]), (at,))
+
+    def test_bases_that_are_named_twice(self):
+        given = names(line_of(6))
+        for many in range(2, 7):
+            for one, other in itertools.combinations(range(many), 2):
+                self.refuse(line_of(6) + (kind_with(bases=with_item(given[:many], one, given[other])),), (6,))
+
     def test_first_wrong_kind_is_told(self):
         wrong = ((PAGE, PAGE), (kind_with(bases=("index",)),), (kind_with(edition=0),), (None,))
         for tail in wrong:
@@ -197,6 +210,33 @@ class Together(Case):
         for many in range(1, 25):
             for marks in ((LETTERS,) * many, ("",) * many, ("z", "a", "") * 8, ("az", LETTERS, "m") * 8):
                 self.take(tuple([("k" + LETTERS[at], 1, (), "a", marks[at]) for at in range(many)]))
+
+    def test_marks_at_every_place_of_layouts_of_several_sizes(self):
+        """Also where the other MARKs are empty, and where they have all LETTERs."""
+        chance = random.Random(17)
+        rights = [LETTERS[:many] for many in range(27)] + [LETTERS[many:] for many in range(27)]
+        rights += ["".join(sorted(chance.sample(LETTERS, many))) for many in range(27)]
+        wrongs = [right[:at] + right[at + 1] + right[at] + right[at + 2:] for right in (LETTERS, "acegmz")
+                  for at in range(len(right) - 1)]
+        wrongs += [LETTERS[:at] + LETTERS[at] + LETTERS[at:] for at in range(26)]
+        wrongs += [right[:at] + sign + right[at:] for right in ("", "bdx", LETTERS[:25], LETTERS[1:], LETTERS)
+                   for at in {0, 1, len(right) // 2, len(right)} for sign in "`{ABZ1-~ @[_\n"]
+        wrongs += [LETTERS.upper(), "Abc", "abC", LETTERS * 2, LETTERS * 13, "a" * 27, "ab" * 300, "z" * 1000]
+        for many in (1, 2, 24):
+            for other in ("", "m", LETTERS):
+                layout = tuple([kind[:4] + (other,) for kind in line_of(many)])
+                for at in range(many):
+                    for mark in rights if many < 24 else rights[at::4]:
+                        self.take(with_item(layout, at, layout[at][:4] + (mark,)))
+                    for mark in wrongs if many < 24 else wrongs[at::4]:
+                        self.refuse(with_item(layout, at, layout[at][:4] + (mark,)), (at,))
+
+    def test_first_of_several_wrong_marks_is_told(self):
+        for one in range(24):
+            for other in range(one + 1, 24):
+                for wrong in ("ba", LETTERS + "z"):
+                    layout = with_item(DEEP, other, DEEP[other][:4] + ("B",))
+                    self.refuse(with_item(layout, one, layout[one][:4] + (wrong,)), (one,))
 
     def test_first_of_wrong_signs_and_wrong_forms_is_told(self):
         signs = [kind_with(name="A"), kind_with(name="b", mark="ba"), kind_with(name="c", letter="C")]

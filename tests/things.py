@@ -29,6 +29,13 @@ DEEP = tuple([
 ])
 DEEP_FILE = (("abcdefga", 5),) + tuple([(kind[0], (5,)) for kind in DEEP[1:]])
 
+# As many KINDs and BASES as there can be, each MARK with all LETTERs, and a FILE with a part of each KIND.
+FULL = tuple([
+    (LETTERS[at] * 8, 1 + at, tuple([sign * 8 for sign in LETTERS[at - 6:at]]) if at >= 6 else (), LETTERS[at], LETTERS)
+    for at in range(24)
+])
+FULL_FILE = tuple([(kind[0], tuple(range(6)) if kind[2] else at) for at, kind in enumerate(FULL)])
+
 
 class Contrary:
     """An object that is equal to everything and cannot be a key."""
