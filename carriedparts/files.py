@@ -62,7 +62,7 @@ def need_parts(reached, thing):
     contents, numbers = _contents_ahead(reached, thing)
     if not are_contents(numbers):
         for at, (name, content) in enumerate(contents.items()):
-            if not are_contents(content if reached[name] & reached[name] - 1 else (content,)):
+            if not are_contents((content,) if is_one_bit(reached[name]) else content):
                 raise BadFile((at,))
     if len(contents) < len(thing):
         raise BadFile((len(contents),))

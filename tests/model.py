@@ -194,3 +194,166 @@ def column(layout, name):
     """[15]"""
     newer = [other for other in order_of(layout)[::-1] if is_older(layout, name, other)]
     return "".join(["1" if watches(layout, other, name) else "0" for other in newer])
+
+
+def chosen(one, other, base):
+    """[16]: whether what is merged of three things is one of them, and which."""
+    if one == other or other == base:
+        return True, one
+    if one == base:
+        return True, other
+    return False, None
+
+
+def joined(layout, edition, base, one, other):
+    """[16], ahead of what leaves: the FILE, or the NAME of a Clash."""
+    file = {}
+    for name, of, bases, _, _ in layout:
+        if bases and of <= edition:
+            _, stands = chosen(name in one, name in other, name in base)
+            if stands and all([other_name in file for other_name in bases]):
+                file[name] = tuple([file[source] for source in sources(layout, name)])
+            continue
+        found, content = chosen(one.get(name), other.get(name), base.get(name))
+        if not found and not bases:
+            return name
+        if found and content is not None:
+            file[name] = content
+    return file
+
+
+def causes(layout, edition, file, side):
+    """[16]: the CAUSEs against a side."""
+    return [name for name, of, _, _, _ in layout if file.get(name) != side.get(name)
+            and (of > edition or all([file.get(under) == side.get(under) for under in beneath(layout, name)]))]
+
+
+def merged(layout, edition, base, one, other):
+    """[16]: the FILE, what is LOST, and what is LOST IN VAIN; or the NAME of a Clash."""
+    file = joined(layout, edition, base, one, other)
+    if isinstance(file, str):
+        return file
+    sides = {}
+    for side, opposite in ((one, other), (other, one)):
+        against = causes(layout, edition, file, side)
+        for name, of, _, _, mark in layout:
+            if of > edition and name in side and opposite.get(name) != side[name]:
+                if opposite.get(name) == base.get(name):
+                    if any([kind_of(layout, cause)[LETTER] in mark for cause in against if cause != name]):
+                        sides[name] = side
+    left = {name: content for name, content in file.items() if name not in sides}
+    lost = tuple([name for name in order_of(layout) if name in sides])
+    vain = [name for name in lost if name in current_names(layout, sides[name])
+            and name in current_names(layout, {**left, name: sides[name][name]})]
+    return left, lost, tuple(vain)
+
+
+def minds(layout, name, other):
+    """[17]"""
+    return name != other and kind_of(layout, other)[LETTER] in kind_of(layout, name)[MARK]
+
+
+def is_late(layout, name):
+    return kind_of(layout, name)[EDITION] >= 2
+
+
+def is_merge_safe(layout):
+    """[17], the fact."""
+    return all([minds(layout, u, k) for u, k in pairs(layout) if is_late(layout, u) and u != k and (
+        k in beneath(layout, u)
+        or any([is_late(layout, b) and minds(layout, b, k) for b in beneath(layout, u)]))])
+
+
+def is_merge_sparing(layout):
+    """[17], the fact."""
+    return all([k in beneath(layout, u) for u, k in pairs(layout) if is_late(layout, u) and minds(layout, u, k)])
+
+
+def all_files(layout, contents=(0, 1)):
+    """All FILEs, as dicts, whose numbers are none but these."""
+    choices = []
+    for name, _, bases, _, _ in layout:
+        if bases:
+            choices.append([None] + list(itertools.product(contents, repeat=len(sources(layout, name)))))
+        else:
+            choices.append([None] + list(contents))
+    for choice in itertools.product(*choices):
+        yield {name: content for name, content in zip(order_of(layout), choice) if content is not None}
+
+
+def mergings(layout):
+    """All EDITIONs, BASEs, ONEs and OTHERs of small contents, and what is merged of them, but for Clashes."""
+    files = list(all_files(layout))
+    for edition in range(1, layout[-1][EDITION] + 1):
+        for base, one, other in itertools.product(files, repeat=3):
+            result = merged(layout, edition, base, one, other)
+            if not isinstance(result, str):
+                yield one, other, result
+
+
+def with_all_beneath(layout, names):
+    return set(names).union(*[beneath(layout, name) for name in names])
+
+
+def fits(layout, names):
+    """[19]"""
+    inside = with_all_beneath(layout, names)
+    return not any([kind_of(layout, one)[LETTER] == kind_of(layout, other)[LETTER]
+                    for one in inside for other in order_of(layout) if other not in inside])
+
+
+def widened_sets(layout, names):
+    """[20]: all sets, as frozensets, that have what the WIDENED set has to have."""
+    order = order_of(layout)
+    for many in range(len(order) + 1):
+        for some in itertools.combinations(order, many):
+            letters = {kind_of(layout, name)[LETTER] for name in some}
+            if set(names) <= set(some) and with_all_beneath(layout, some) == set(some):
+                if all([name in some for name in order if kind_of(layout, name)[LETTER] in letters]):
+                    yield frozenset(some)
+
+
+def is_sight(layout, thing):
+    """[21], by its form."""
+    if not isinstance(thing, tuple) or len(thing) != 3 or thing[0] not in order_of(layout):
+        return False
+    name, stayed, left = thing
+    newer = [other for other in order_of(layout) if is_older(layout, name, other)]
+    return all([isinstance(some, tuple) and some == tuple([other for other in newer if other in some])
+                for some in (stayed, left)]) and not set(stayed) & set(left)
+
+
+def seen(layout, log):
+    """[21]: a dict from pairs of a NAME and a LETTER to whether the LETTER is in the MARK, as the LOG tells."""
+    facts = {}
+    for name, stayed, left in log:
+        letter = kind_of(layout, name)[LETTER]
+        facts.update({(other, letter): False for other in stayed})
+        facts.update({(other, letter): True for other in left})
+    return facts
+
+
+def first_wrong_sight(layout, log):
+    """[21]: the number of the first SIGHT that is none or contradicts those ahead; None if there is none."""
+    for at, sight in enumerate(log):
+        if not is_sight(layout, sight):
+            return at
+        ahead, new = seen(layout, log[:at]), seen(layout, log[at:at + 1])
+        if any([ahead.get(pair, new[pair]) != new[pair] for pair in new]):
+            return at
+    return None
+
+
+def open_letters(layout, log):
+    """[22]"""
+    facts = seen(layout, log)
+    return "".join(sorted({kind_of(layout, k)[LETTER] for u, k in pairs(layout)
+                           if is_older(layout, k, u) and (u, kind_of(layout, k)[LETTER]) not in facts}))
+
+
+def answer(layout, marks, name):
+    """[22]: the SIGHT that a question gets if the MARKs are these."""
+    letter = kind_of(layout, name)[LETTER]
+    newer = [other for other in order_of(layout) if is_older(layout, name, other)]
+    return (name, tuple([other for other in newer if letter not in marks[other]]),
+            tuple([other for other in newer if letter in marks[other]]))

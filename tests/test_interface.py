@@ -33,6 +33,15 @@ INTERFACE = {
         "are_alike": "one other", "parting_row": "one other", "columns": "layout", "can_share": "layout name other",
         "fewest": "layout", "unlike": "layout",
     },
+    "merging": {
+        "merged": "layout edition base one other", "is_merge_safe": "layout", "is_merge_sparing": "layout",
+        "merge_fault": "layout", "merge_waste": "layout",
+    },
+    "growing": {"fits": "layout bases", "widened": "layout bases", "with_kinds": "layout *kinds"},
+    "learning": {
+        "need_log": "layout thing", "learned": "layout log", "open_letters": "layout log", "questions": "layout log",
+        "agrees": "layout log",
+    },
 }
 CONSTANTS = {
     ("layouts", "MOST_KINDS"): 24, ("layouts", "MOST_BASES"): 6, ("layouts", "MOST_EDITION"): 99,
@@ -48,7 +57,8 @@ class Interface(unittest.TestCase):
                 with self.subTest(module=module, name=name):
                     found = getattr(importlib.import_module("carriedparts." + module), name)
                     self.assertEqual(found.__module__, "carriedparts." + module)
-                    self.assertEqual(list(inspect.signature(found).parameters), arguments.split())
+                    given = [str(parameter) for parameter in inspect.signature(found).parameters.values()]
+                    self.assertEqual(given, arguments.split())
                     self.assertEqual(inspect.isgeneratorfunction(found), (module, name) in GENERATORS)
 
     def test_constants(self):
