@@ -20,7 +20,7 @@ _BELOW_LETTERS = "`"
 _ABOVE_LETTERS = "{"
 
 # A dict is asked more quickly than a string, and does not have two letters side by side.
-_IS_LETTER = {
+IS_LETTER = {
     "a": True, "b": True, "c": True, "d": True, "e": True, "f": True, "g": True, "h": True, "i": True, "j": True,
     "k": True, "l": True, "m": True, "n": True, "o": True, "p": True, "q": True, "r": True, "s": True, "t": True,
     "u": True, "v": True, "w": True, "x": True, "y": True, "z": True,
@@ -38,7 +38,7 @@ def is_whole(thing, least, most):
     return isinstance(thing, int) and not isinstance(thing, bool) and least <= thing <= most
 
 
-def _has_letters_alone(text):
+def has_letters_alone(text):
     """Whether a string consists of LETTERs, of one at least."""
     if not text.isascii():
         return False
@@ -47,12 +47,12 @@ def _has_letters_alone(text):
     return data.isalpha() and data.islower()
 
 
-def _are_marks(texts):
+def are_marks(texts):
     """Whether strings are MARKs."""
     first = _BELOW_LETTERS + _BELOW_LETTERS.join(texts)
     if len(first) > _MOST_SIGNS:
         half = len(texts) // 2
-        return half > 0 and _are_marks(texts[:half]) and _are_marks(texts[half:])
+        return half > 0 and are_marks(texts[:half]) and are_marks(texts[half:])
     second = _ABOVE_LETTERS.join(texts) + _ABOVE_LETTERS
     if not second.isascii():
         return False
@@ -81,7 +81,7 @@ def _reached_ahead(kinds):
             # To Python True is an integer, too; False is less than each EDITION.
             if not isinstance(edition, int) or edition is True or not least <= edition <= MOST_EDITION:
                 break
-            if not isinstance(letter, str) or letter not in _IS_LETTER:
+            if not isinstance(letter, str) or letter not in IS_LETTER:
                 break
             if not isinstance(mark, str) or not isinstance(bases, tuple):
                 break
@@ -114,9 +114,9 @@ def reached_bits(thing):
     reached = _reached_ahead(thing)
     marks = [kind[MARK] for kind in thing[:len(reached)]]
     # The signs of all NAMEs and MARKs are looked at together; which of them is wrong is asked only if one is.
-    if "" in reached or not _has_letters_alone("".join(reached)) or not _are_marks(marks):
+    if "" in reached or not has_letters_alone("".join(reached)) or not are_marks(marks):
         for at, name in enumerate(reached):
-            if not _has_letters_alone(name) or not _are_marks(marks[at:at + 1]):
+            if not has_letters_alone(name) or not are_marks(marks[at:at + 1]):
                 raise BadLayout((at,))
     if len(reached) < len(thing):
         raise BadLayout((len(reached),))

@@ -42,12 +42,40 @@ INTERFACE = {
         "need_log": "layout thing", "learned": "layout log", "open_letters": "layout log", "questions": "layout log",
         "agrees": "layout log",
     },
+    "texts": {
+        "layout_text": "layout", "file_text": "layout file", "row_text": "layout row", "read_layout": "text",
+        "read_file": "layout text", "read_row": "layout text",
+    },
+    "works": {"Work": "layout", "tried": "work call"},
+    "releases": {"Releases": "layout"},
+    "desk": {"Desk": "text"},
+}
+METHODS = {
+    ("works", "Work"): {
+        "do": "self edition *deed", "undo": "self", "redo": "self", "stale": "self", "fork": "self",
+        "merge": "self edition other", "trial": "self",
+    },
+    ("releases", "Releases"): {
+        "release": "self *kinds sparing=False", "undo": "self", "carried": "self number other",
+    },
+    ("desk", "Desk"): {"say": "self line"},
+}
+PROPERTIES = {
+    ("works", "Work"): ("file", "layout", "losses"), ("releases", "Releases"): ("last",), ("desk", "Desk"): ("work",),
+}
+OPERATORS = {
+    ("works", "Work"): ("__contains__", "__getitem__", "__len__", "__eq__"),
+    ("releases", "Releases"): ("__len__", "__getitem__"), ("desk", "Desk"): (),
 }
 CONSTANTS = {
     ("layouts", "MOST_KINDS"): 24, ("layouts", "MOST_BASES"): 6, ("layouts", "MOST_EDITION"): 99,
     ("files", "MOST_CONTENT"): 999999, ("programs", "MOST_STEPS"): 400,
 }
 GENERATORS = (("judging", "gaps"), ("judging", "wastes"), ("marks", "splits"))
+
+
+def parameters_of(called):
+    return [str(parameter) for parameter in inspect.signature(called).parameters.values()]
 
 
 class Interface(unittest.TestCase):
@@ -57,9 +85,19 @@ class Interface(unittest.TestCase):
                 with self.subTest(module=module, name=name):
                     found = getattr(importlib.import_module("carriedparts." + module), name)
                     self.assertEqual(found.__module__, "carriedparts." + module)
-                    given = [str(parameter) for parameter in inspect.signature(found).parameters.values()]
-                    self.assertEqual(given, arguments.split())
+                    self.assertEqual(parameters_of(found), arguments.split())
                     self.assertEqual(inspect.isgeneratorfunction(found), (module, name) in GENERATORS)
+
+    def test_methods_stand_in_the_classes_themselves(self):
+        for (module, name), methods in METHODS.items():
+            body = vars(getattr(importlib.import_module("carriedparts." + module), name))
+            for method, arguments in methods.items():
+                with self.subTest(name=name, method=method):
+                    self.assertEqual(parameters_of(body[method]), arguments.split())
+            for method in OPERATORS[module, name]:
+                self.assertTrue(inspect.isfunction(body[method]), method)
+            for method in PROPERTIES[module, name]:
+                self.assertIsInstance(body[method], property)
 
     def test_constants(self):
         for (module, name), value in CONSTANTS.items():
