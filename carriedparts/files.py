@@ -2,7 +2,7 @@
 
 from carriedparts.bits import many_bits
 from carriedparts.errors import BadFile, Missing
-from carriedparts.layouts import MOST_KINDS, is_one_bit, reached_bits
+from carriedparts.layouts import MOST_KINDS, is_one_bit, look_at
 
 MOST_CONTENT = 999999
 
@@ -17,13 +17,8 @@ def are_contents(things):
     return True
 
 
-def _contents_ahead(reached, parts):
+def _contents_ahead(reached, roots, parts):
     """What need_parts tells of the parts ahead of the first wrong one, and all numbers in them, whatever these are."""
-    roots = 0
-    for bits in reached.values():
-        # What a source reaches is one bit alone.
-        if bits & bits - 1 == 0:
-            roots |= bits
     # Many KINDs have the same SOURCES, which are counted once.
     many = {}
     contents = {}
@@ -55,11 +50,11 @@ def _contents_ahead(reached, parts):
     return contents, numbers
 
 
-def need_parts(reached, thing):
-    """A dict from the NAMEs to the CONTENTs of a FILE of a LAYOUT, of which reached_bits has told."""
+def need_parts(reached, roots, thing):
+    """A dict from the NAMEs to the CONTENTs of a FILE of a LAYOUT, of which look_at has told."""
     if not isinstance(thing, tuple) or len(thing) > MOST_KINDS:
         raise BadFile(())
-    contents, numbers = _contents_ahead(reached, thing)
+    contents, numbers = _contents_ahead(reached, roots, thing)
     if not are_contents(numbers):
         for at, (name, content) in enumerate(contents.items()):
             if not are_contents((content,) if is_one_bit(reached[name]) else content):
@@ -71,12 +66,13 @@ def need_parts(reached, thing):
 
 def need_file(layout, thing):
     """The thing itself, if it is a FILE of the LAYOUT."""
-    need_parts(reached_bits(layout), thing)
+    reached, roots = look_at(layout)
+    need_parts(reached, roots, thing)
     return thing
 
 
-def current_bits(reached, contents):
-    """The bits of those of the parts with these CONTENTs, in order, that are CURRENT."""
+def current_bits(reached, contents, wanted):
+    """The bits of what is CURRENT, by a dict of CONTENTs, in order, of those KINDs that reach none but wanted bits."""
     current = 0
     roots = 0
     numbers = []
@@ -84,6 +80,8 @@ def current_bits(reached, contents):
     fresh = {}
     for name, content in contents.items():
         bits = reached[name]
+        if bits & ~wanted:
+            continue
         left = bits & ~current
         # If all beneath it is CURRENT, just the bit of the KIND itself is left.
         if left & left - 1:
@@ -103,23 +101,21 @@ def current_bits(reached, contents):
 
 def is_current(layout, file, name):
     """Whether the part of a KIND is CURRENT in a FILE."""
-    reached = reached_bits(layout)
-    contents = need_parts(reached, file)
+    reached, roots = look_at(layout)
+    contents = need_parts(reached, roots, file)
     if not isinstance(name, str) or name not in contents:
         raise Missing(name)
-    wanted = reached[name]
-    if is_one_bit(wanted):
-        return True
     # Whether it is CURRENT depends on nothing but itself and what is beneath it.
-    needed = {other: content for other, content in contents.items() if reached[other] | wanted == wanted}
-    return current_bits(reached, needed) == wanted
+    wanted = reached[name]
+    return wanted & roots == wanted or current_bits(reached, contents, wanted) == wanted
 
 
 def stale(layout, file):
     """The NAMEs, in order, of the parts of a FILE that are not CURRENT."""
-    reached = reached_bits(layout)
-    contents = need_parts(reached, file)
-    current = current_bits(reached, contents)
+    reached, roots = look_at(layout)
+    contents = need_parts(reached, roots, file)
+    # -1 has all bits.
+    current = current_bits(reached, contents, -1)
     return tuple([name for name in contents if reached[name] & ~current])
 
 
@@ -133,7 +129,7 @@ class Table:
 
     def __init__(self, layout):
         self.kinds = layout
-        self.reached = reached_bits(layout)
+        self.reached, self.roots = look_at(layout)
         self.sources = {name: bits for name, bits in self.reached.items() if is_one_bit(bits)}
 
 
@@ -155,7 +151,7 @@ def file_of(table, contents):
 
 def back_as_current(table, lost, contents):
     """The NAMEs of those LOST parts that would be CURRENT if they were put back, each alone, to what contents has."""
-    current = current_bits(table.reached, in_order(table, contents))
+    current = current_bits(table.reached, in_order(table, contents), -1)
     told = []
     for name, content in lost.items():
         # To put a part back alters nothing for what is beneath it, all of which has to be CURRENT.

@@ -66,9 +66,9 @@ def are_marks(texts):
     return left & tops == tops
 
 
-def _reached_ahead(kinds):
-    """What reached_bits tells of the KINDs ahead of the first wrong one, whatever signs NAMEs and MARKs have."""
-    reached = {}
+def _take_kinds(kinds, reached, marks):
+    """Fills what look_at tells, and the MARKs, up to the first KIND that is wrong but for signs; tells the roots."""
+    roots = 0
     own = 1
     least = 1
     try:
@@ -90,29 +90,30 @@ def _reached_ahead(kinds):
                 for base in bases:
                     # What is no string is not looked up: it may be no key, or claim to be equal to any NAME.
                     if not isinstance(base, str):
-                        return reached
+                        return roots
                     bits |= reached[base]
                 many = len(bases)
                 if many > 1 and (many > MOST_BASES or len(set(bases)) < many):
                     break
+            else:
+                roots |= own
             reached[name] = bits
+            marks.append(mark)
             own += own
             least = edition
     except KeyError:
         # One of the BASES is no NAME of a KIND ahead, so this KIND is the first wrong one.
-        return reached
-    return reached
+        return roots
+    return roots
 
 
-def reached_bits(thing):
-    """A dict from the NAMEs of a LAYOUT, in order, to bits of what they reach: the KIND itself and all beneath it.
-
-    The bit 1 << N is that of the KIND with the number N in order, from 0. BadLayout of what is no LAYOUT.
-    """
+def look_at(thing):
+    """What reached_bits tells of a LAYOUT, and the roots: the bits of its sources. BadLayout of what is none."""
     if not isinstance(thing, tuple) or not 1 <= len(thing) <= MOST_KINDS:
         raise BadLayout(())
-    reached = _reached_ahead(thing)
-    marks = [kind[MARK] for kind in thing[:len(reached)]]
+    reached = {}
+    marks = []
+    roots = _take_kinds(thing, reached, marks)
     # The signs of all NAMEs and MARKs are looked at together; which of them is wrong is asked only if one is.
     if "" in reached or not has_letters_alone("".join(reached)) or not are_marks(marks):
         for at, name in enumerate(reached):
@@ -120,7 +121,15 @@ def reached_bits(thing):
                 raise BadLayout((at,))
     if len(reached) < len(thing):
         raise BadLayout((len(reached),))
-    return reached
+    return reached, roots
+
+
+def reached_bits(thing):
+    """A dict from the NAMEs of a LAYOUT, in order, to bits of what they reach: the KIND itself and all beneath it.
+
+    The bit 1 << N is that of the KIND with the number N in order, from 0. BadLayout of what is no LAYOUT.
+    """
+    return look_at(thing)[0]
 
 
 def need_number(reached, name):

@@ -68,16 +68,16 @@ def _leaving(table, edition, joined, base, side, opposite):
 
 def _in_vain(table, side, lost, back):
     """The NAMEs of the LOST parts of a side that are LOST IN VAIN; back are those that would be CURRENT again."""
-    current = current_bits(table.reached, side)
+    current = current_bits(table.reached, side, -1)
     return [name for name in lost if name in back and not table.reached[name] & ~current]
 
 
 def merged(layout, edition, base, one, other):
     """The FILE that the program of an EDITION merges, the NAMEs LOST and those of them LOST IN VAIN."""
     table = Table(layout)
-    base_contents = need_parts(table.reached, base)
-    one_contents = need_parts(table.reached, one)
-    other_contents = need_parts(table.reached, other)
+    base_contents = need_parts(table.reached, table.roots, base)
+    one_contents = need_parts(table.reached, table.roots, one)
+    other_contents = need_parts(table.reached, table.roots, other)
     need_edition(layout, edition)
     joined = _joined(table, edition, base_contents, one_contents, other_contents)
     lost_one = _leaving(table, edition, joined, base_contents, one_contents, other_contents)

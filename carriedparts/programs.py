@@ -94,14 +94,14 @@ def _in_vain(table, ahead, lost, behind):
     """The NAMEs of the LOST parts that are LOST IN VAIN, by the CONTENTs ahead of the deed and behind it."""
     if not lost:
         return ()
-    before = current_bits(table.reached, ahead)
+    before = current_bits(table.reached, ahead, -1)
     return tuple([name for name in back_as_current(table, lost, behind) if table.reached[name] & ~before == 0])
 
 
 def done(layout, edition, file, deed):
     """The FILE behind a DEED of the program of an EDITION, the NAMEs LOST and those of them LOST IN VAIN."""
     table = Table(layout)
-    ahead = need_parts(table.reached, file)
+    ahead = need_parts(table.reached, table.roots, file)
     word = _wrong_word(table, ahead, edition, deed)
     if word is not None:
         raise BadDeed(word)

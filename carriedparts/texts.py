@@ -130,7 +130,7 @@ def read_file(layout, text):
     """The FILE of a LAYOUT of a text."""
     table = Table(layout)
     file = _need_all([_part_of(table, row) for row in _need_rows(text)])
-    need_parts(table.reached, file)
+    need_parts(table.reached, table.roots, file)
     return file
 
 

@@ -142,6 +142,19 @@ class Form(Case):
             self.refuse(LAYOUT, (("page", -1), ("page", 5)) + tail, (0,))
             self.refuse(LAYOUT, FILE + tail, (3,))
 
+    def test_wrong_numbers_behind_right_parts(self):
+        """Also with a further part behind them that is wrong by its form, or none."""
+        for number in (-1, 1000000, True, False, None, "5", (5,), [5]):
+            for at, (name, content) in enumerate(PARTS):
+                many = len(content) if isinstance(content, tuple) else 1
+                for where in range(many):
+                    wrong = with_item((7,) * many, where, number)
+                    file = with_item(PARTS, at, (name, wrong if isinstance(content, tuple) else number))
+                    self.refuse(WIDE, file, (at,))
+                    self.refuse(WIDE, file[:at + 1], (at,))
+                    self.refuse(WIDE, file[:at + 1] + (None,), (at,))
+                    self.refuse(WIDE, (None,) + file, (0,))
+
     def test_a_file_of_another_layout(self):
         self.refuse(LAYOUT[:2], FILE, (2,))
         self.refuse((PAGE, ("index", 2, (), "i", "")), FILE, (1,))

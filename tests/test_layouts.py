@@ -91,7 +91,7 @@ class Form(Case):
         self.assertGreater(taken, 0)
         for name in ("a", "z", "abcdefgh", "zzzzzzzz"):
             self.take((kind_with(name=name),))
-        for name in ("", "abcdefghi", "Page", "pAge", "page1", "page ", " page", "a-b", "a_b", "a{", "a`", "ab\n", "\n"):
+        for name in ("\u00e9", "a\u00e9", "\u0430", "\ud800", "", "abcdefghi", "Page", "pAge", "page1", "page ", " page", "a-b", "a_b", "a{", "a`", "ab\n", "\n"):
             self.refuse((kind_with(name=name),), (0,))
 
     def test_edition(self):
@@ -146,7 +146,7 @@ class Form(Case):
         self.assertGreater(taken, 0)
         for mark in ("", "a", "z", "az", "abc", LETTERS):
             self.take((kind_with(mark=mark),))
-        for mark in ("aa", "abb", "aab", "ba", "acb", "abca", LETTERS[::-1], LETTERS + "z", "A", "aB", "-", " ", "a b"):
+        for mark in ("\u00e9", "a\u00e9", "\u0430", "\ud800", "aa", "abb", "aab", "ba", "acb", "abca", LETTERS[::-1], LETTERS + "z", "A", "aB", "-", " ", "a b"):
             self.refuse((kind_with(mark=mark),), (0,))
 
 
