@@ -73,6 +73,7 @@ def need_file(layout, thing):
 
 def current_bits(reached, contents, wanted):
     """The bits of what is CURRENT, by a dict of CONTENTs, in order, of those KINDs that reach none but wanted bits."""
+    unwanted = ~wanted
     current = 0
     roots = 0
     numbers = []
@@ -80,7 +81,7 @@ def current_bits(reached, contents, wanted):
     fresh = {}
     for name, content in contents.items():
         bits = reached[name]
-        if bits & ~wanted:
+        if bits & unwanted:
             continue
         left = bits & ~current
         # If all beneath it is CURRENT, just the bit of the KIND itself is left.

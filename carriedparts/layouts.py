@@ -27,9 +27,9 @@ IS_LETTER = {
 }
 
 # So many signs of MARKs are looked at together, with one more sign for each MARK, which is enough for 12 of them; and
-# a number with 1 in as many bytes.
+# a number with as many bytes, of each of which just the highest bit is set.
 _MOST_SIGNS = 12 * 27
-_ONES = ((1 << 8 * 12 * 27) - 1) // 255
+_TOPS = ((1 << 8 * 12 * 27) - 1) // 255 * 128
 
 
 def is_whole(thing, least, most):
@@ -59,11 +59,10 @@ def are_marks(texts):
     # Each sign of the second string has to be greater than the sign at the same place of the first one, which is the
     # sign ahead of it. One difference of long numbers compares all of them at once, and a loop over the signs would
     # take longer than all that is looked at besides: no sign has the highest bit of its byte, so if that is set in
-    # the greater number, it is still there behind the subtraction exactly if the byte was greater.
-    ones = _ONES >> 8 * (_MOST_SIGNS - len(second))
-    tops = ones << 7
-    left = (int.from_bytes(second.encode(), "big") | tops) - ones - int.from_bytes(first.encode(), "big")
-    return left & tops == tops
+    # the first number, it is still there behind the subtraction exactly if the second byte was not greater.
+    tops = _TOPS >> 8 * (_MOST_SIGNS - len(second))
+    left = (int.from_bytes(first.encode(), "big") | tops) - int.from_bytes(second.encode(), "big")
+    return left & tops == 0
 
 
 def _take_kinds(kinds, reached, marks):
@@ -98,7 +97,7 @@ def _take_kinds(kinds, reached, marks):
             else:
                 roots |= own
             reached[name] = bits
-            marks.append(mark)
+            marks[mark] = True
             own += own
             least = edition
     except KeyError:
@@ -112,12 +111,13 @@ def look_at(thing):
     if not isinstance(thing, tuple) or not 1 <= len(thing) <= MOST_KINDS:
         raise BadLayout(())
     reached = {}
-    marks = []
+    # A dict, as many KINDs may have the same MARK, which is looked at once.
+    marks = {}
     roots = _take_kinds(thing, reached, marks)
     # The signs of all NAMEs and MARKs are looked at together; which of them is wrong is asked only if one is.
-    if "" in reached or not has_letters_alone("".join(reached)) or not are_marks(marks):
+    if "" in reached or not has_letters_alone("".join(reached)) or not are_marks(list(marks)):
         for at, name in enumerate(reached):
-            if not has_letters_alone(name) or not are_marks(marks[at:at + 1]):
+            if not has_letters_alone(name) or not are_marks([thing[at][MARK]]):
                 raise BadLayout((at,))
     if len(reached) < len(thing):
         raise BadLayout((len(reached),))

@@ -9,7 +9,7 @@ from carriedparts import layouts
 from carriedparts.errors import BadDeed, BadLayout, Missing
 from carriedparts.layouts import above, beneath, is_layout, is_older, known, minds, names, need_layout, newest
 from carriedparts.layouts import sources, watches
-from things import DEEP, INDEX, LAYOUT, LETTERS, PAGE, SUM, WIDE
+from things import DEEP, FULL, INDEX, LAYOUT, LETTERS, PAGE, SUM, WIDE
 from things import is_text, is_whole, line_of, some_layouts, things, with_item
 
 ONE_NAME = (beneath, above, sources, watches, minds)
@@ -91,7 +91,8 @@ class Form(Case):
         self.assertGreater(taken, 0)
         for name in ("a", "z", "abcdefgh", "zzzzzzzz"):
             self.take((kind_with(name=name),))
-        for name in ("\u00e9", "a\u00e9", "\u0430", "\ud800", "", "abcdefghi", "Page", "pAge", "page1", "page ", " page", "a-b", "a_b", "a{", "a`", "ab\n", "\n"):
+        for name in ("\u00e9", "a\u00e9", "\u0430", "\ud800", "", "abcdefghi", "Page", "pAge", "page1", "page ", " page",
+                     "a-b", "a_b", "a{", "a`", "ab\n", "\n"):
             self.refuse((kind_with(name=name),), (0,))
 
     def test_edition(self):
@@ -146,7 +147,8 @@ class Form(Case):
         self.assertGreater(taken, 0)
         for mark in ("", "a", "z", "az", "abc", LETTERS):
             self.take((kind_with(mark=mark),))
-        for mark in ("\u00e9", "a\u00e9", "\u0430", "\ud800", "aa", "abb", "aab", "ba", "acb", "abca", LETTERS[::-1], LETTERS + "z", "A", "aB", "-", " ", "a b"):
+        for mark in ("\u00e9", "a\u00e9", "\u0430", "\ud800", "aa", "abb", "aab", "ba", "acb", "abca", LETTERS[::-1],
+                     LETTERS + "z", "A", "aB", "-", " ", "a b"):
             self.refuse((kind_with(mark=mark),), (0,))
 
 
@@ -237,6 +239,11 @@ class Together(Case):
                 for wrong in ("ba", LETTERS + "z"):
                     layout = with_item(DEEP, other, DEEP[other][:4] + ("B",))
                     self.refuse(with_item(layout, one, layout[one][:4] + (wrong,)), (one,))
+
+    def test_first_of_the_same_wrong_marks_is_told(self):
+        for one, other in itertools.combinations(range(24), 2):
+            layout = with_item(FULL, other, FULL[other][:4] + ("ba",))
+            self.refuse(with_item(layout, one, layout[one][:4] + ("ba",)), (one,))
 
     def test_first_of_wrong_signs_and_wrong_forms_is_told(self):
         signs = [kind_with(name="A"), kind_with(name="b", mark="ba"), kind_with(name="c", letter="C")]

@@ -133,7 +133,8 @@ class Written(Case):
                          "99 set a 999999\n99 drop a")
 
     def test_largest_ones(self):
-        for layout, file in ((DEEP, DEEP_FILE), (FULL, FULL_FILE), (line_of(24), tuple([(name, 999999) for name in names(line_of(24))]))):
+        line = line_of(24)
+        for layout, file in ((DEEP, DEEP_FILE), (FULL, FULL_FILE), (line, tuple([(name, 999999) for name in names(line)]))):
             self.assertEqual(len(layout_text(layout).split("\n")), 24)
             self.assertEqual(read_layout(layout_text(layout)), layout)
             self.assertEqual(read_file(layout, file_text(layout, file)), file)
